@@ -1,0 +1,1 @@
+"""Plancalls: how often a plan calls a function."""
