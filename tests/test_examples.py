@@ -17,6 +17,45 @@ SCHEMAS = '''
 raises NotFixed('tax')
 '''
 
+# Behind [31].
+ANSWERS = '''
+>>> from plancalls.answers import Answers, keeps
+>>> from plancalls.contents import Contents
+>>> tax = Answers({((100,), 0): 119}, rest=7)
+>>> [tax((100,), 0), tax((5,), 3), Answers(step=2)((), 4), Answers.always(1) == Answers(rest=1)]
+[119, 7, 8, True]
+>>> goods = Contents(shop, {"item": [(1, 100, 119), (2, 5, 7)], "sale": [(2,), (2,)]})
+>>> [keeps(shop, goods, {"tax": tax}), keeps(shop, goods.with_rows("sale", [(2,), (3,)]), {"tax": tax})]
+[None, ('reference', 'sale', 'item', 'item', 1)]
+'''
+
+# Behind [32].
+PLANS = '''
+>>> from plancalls.plans import Plan
+>>> bill = Plan(shop, [("each", "s", "sale"), ("each", "i", "item"), ("same", ("s", "item"), ("i", "id")), ("call", "done", "log", (("i", "net"),))], [("i", "price"), "done"], marks=["s"])
+>>> [bill.loops(), bill.open_at(1), bill.function("done"), bill.place_of("i"), len(bill.ahead(4))]
+[['s', 'i'], ['s'], 'log', 1, 4]
+>>> Plan(shop, [("each", "s", "sale"), ("same", ("s", "item"), "done")])
+raises BadItem(1)
+'''
+
+# Behind [41].
+RECORDS = '''
+>>> from plancalls.records import record
+>>> from plancalls.runs import walk
+>>> tables = {"cart": ["item", "many"], "price": ["item", "cost"]}
+>>> functions = {"tax": (1, "fixed"), "draw": (0, "changing")}
+>>> market = Schema(tables, functions, keys={"price": "item"}, references=[("cart", "item", "price")])
+>>> items = [("each", "c", "cart"), ("each", "p", "price"), ("same", ("c", "item"), ("p", "item")), ("call", "t", "tax", (("p", "cost"),))]
+>>> plan = Plan(market, items, [("c", "many"), "t"], marks=["c"])
+>>> stock = Contents(market, {"cart": [(7, 2), (8, 1), (7, 5)], "price": [(7, 100), (8, 50)]})
+>>> told = {"tax": lambda arguments, many: arguments[0] // 10, "draw": lambda arguments, many: many}
+>>> list(walk(plan, stock, told))
+[((('c', 0),), (2, 10)), ((('c', 1),), (1, 5)), ((('c', 2),), (5, 10))]
+>>> [record(plan, stock, told).counted("tax"), record(plan, stock, told).counted_at("t"), record(plan, stock, told).calls("draw")]
+[3, 3, []]
+'''
+
 
 def result_of(line, session):
     """Return what the document writes behind a line: nothing, a value, or an error."""
@@ -42,7 +81,8 @@ class Examples(unittest.TestCase):
 
     def test_the_examples(self):
         session = {}
-        self.assertEqual(6, self.run_examples(SCHEMAS, session))
+        for many, text in [(6, SCHEMAS), (6, ANSWERS), (4, PLANS), (11, RECORDS)]:
+            self.assertEqual(many, self.run_examples(text, session))
 
 
 if __name__ == "__main__":

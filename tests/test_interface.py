@@ -3,13 +3,16 @@
 import inspect
 import unittest
 
-from plancalls import contents, kinds, schemas
+from plancalls import answers, contents, kinds, plans, records, runs, schemas
 
 FUNCTIONS = {
     kinds: {
         "is_integer": "(thing)", "is_name": "(thing)", "is_kind": "(thing)", "freer": "(one, other)",
         "as_free": "(one, other)",
     },
+    answers: {"keeps": "(schema, contents, functions)"},
+    runs: {"walk": "(plan, contents, functions)", "traced": "(plan, contents, functions)"},
+    records: {"record": "(plan, contents, functions)"},
 }
 CLASSES = {
     schemas: {
@@ -28,7 +31,33 @@ CLASSES = {
             "with_rows": "(self, table, rows)", "__eq__": "(self, other)",
         },
     },
+    answers: {
+        "Answers": {
+            "__init__": "(self, told=None, *, rest=0, step=0)", "__call__": "(self, arguments, many)",
+            "told": "(self)", "with_answer": "(self, arguments, many, answer)", "always": "(value)",
+            "__eq__": "(self, other)",
+        },
+    },
+    plans: {
+        "Plan": {
+            "__init__": "(self, schema, items, shown=(), *, marks=(), kept=())",
+            "main_items": "(self)", "kept": "(self)", "shown": "(self)", "marks": "(self)", "steps": "(self)",
+            "ahead": "(self, place)", "open_at": "(self, place)", "loops": "(self)", "answers": "(self)",
+            "table_of": "(self, loop)", "function": "(self, answer)", "place_of": "(self, name)",
+            "with_items": "(self, items)", "with_shown": "(self, shown)", "with_marks": "(self, marks)",
+            "with_schema": "(self, schema)", "__eq__": "(self, other)",
+        },
+    },
+    records: {
+        "Record": {
+            "rows": "(self)", "calls": "(self, function)", "effects": "(self)", "parts": "(self, other)",
+            "counted": "(self, function)", "counted_at": "(self, answer)", "__eq__": "(self, other)",
+            "__len__": "(self)",
+        },
+    },
 }
+PROPERTIES = [(contents.Contents, "schema"), (answers.Answers, "rest"), (answers.Answers, "step"),
+              (plans.Plan, "schema")]
 
 
 class Interface(unittest.TestCase):
@@ -50,11 +79,19 @@ class Interface(unittest.TestCase):
                         self.assertEqual(signature, str(inspect.signature(found)))
 
     def test_properties(self):
-        self.assertIsInstance(vars(contents.Contents)["schema"], property)
+        for found, name in PROPERTIES:
+            with self.subTest(found=found, name=name):
+                self.assertIsInstance(vars(found)[name], property)
+
+    def test_static_methods_and_generators(self):
+        self.assertIsInstance(vars(answers.Answers)["always"], staticmethod)
+        self.assertTrue(inspect.isgeneratorfunction(runs.walk))
 
     def test_what_stands_behind_the_star_is_passed_by_keyword(self):
-        with self.assertRaises(TypeError):
-            schemas.Schema({}, {}, None)
+        schema = schemas.Schema({}, {})
+        for call in [lambda: schemas.Schema({}, {}, None), lambda: answers.Answers({}, 0),
+                     lambda: plans.Plan(schema, [], [], [])]:
+            self.assertRaises(TypeError, call)
 
 
 if __name__ == "__main__":

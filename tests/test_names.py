@@ -1,0 +1,97 @@
+"""Other names whose order is the same make no difference but in the names."""
+
+import unittest
+
+from plancalls.answers import Answers, keeps
+from plancalls.contents import Contents
+from plancalls.plans import Plan
+from plancalls.records import record
+from plancalls.runs import traced, walk
+from plancalls.schemas import Schema
+from things import error_of
+
+TABLES = ["cart", "price"]
+COLUMNS = ["cost", "item", "sum"]
+FUNCTIONS = ["add", "draw", "log", "now"]
+STEPS = ["a", "b", "k", "p", "q", "x"]
+OTHER = [["tone", "ttwo"], ["abc", "abcd", "abcde"], ["f", "ff", "g", "z"], ["ka", "kb", "kc", "kd", "ke", "kf"]]
+# The words of the items, and names that stand for things of several sorts.
+SHARED = [["each", "use"], ["call", "each", "same"], ["call", "each", "unlike", "use"],
+       ["aa", "call", "each", "same", "unlike", "use"]]
+
+
+class Shop:
+    """A Schema, Contents, functions and a Plan with these names, and what all queries tell of them."""
+
+    def __init__(self, tables, columns, functions, steps):
+        (self.cart, self.price), (self.cost, self.item, self.sum) = tables, columns
+        self.add, self.draw, self.log, self.now = functions
+        self.names = steps
+        told = {self.add: (2, "fixed"), self.draw: (1, "changing"), self.log: (1, "effect"), self.now: (0, "stable")}
+        self.schema = Schema({self.cart: [self.item, self.sum], self.price: [self.item, self.cost, self.sum]}, told,
+                             keys={self.price: self.item}, references=[(self.cart, self.item, self.price)],
+                             made=[(self.price, self.sum, self.add, (self.item, self.cost))])
+        self.functions = {self.add: lambda arguments, many: sum(arguments), self.draw: Answers(rest=3, step=2),
+                          self.log: Answers.always(6), self.now: Answers(rest=8)}
+        self.plan = self.planned()
+
+    def planned(self):
+        a, b, k, p, q, x = self.names
+        kept = [("each", k, self.cart), ("call", a, self.draw, ((k, self.sum),))]
+        items = [("each", p, self.price), ("call", b, self.log, ((p, self.cost),)), ("use",),
+                 ("same", (k, self.item), (p, self.item)), ("call", q, self.add, (a, b)), ("call", x, self.now, ())]
+        return Plan(self.schema, items, [q, (k, self.sum), x], marks=[p, k], kept=kept)
+
+    def contents(self, cart, price):
+        return Contents(self.schema, {self.cart: cart, self.price: price})
+
+    def all_told(self):
+        """Return what everything tells of the shop."""
+        plan, contents = self.plan, self.contents([(1, 5), (2, 4), (1, 5)], [(2, 3, 5), (1, 7, 8)])
+        one, other = record(plan, contents, self.functions), record(plan.with_marks([]), contents, self.functions)
+        places = range(9)
+        told = [plan.steps(), plan.loops(), plan.answers(), plan.marks(), plan.shown(),
+                [(plan.ahead(place), plan.open_at(place)) for place in places],
+                [(plan.table_of(loop), plan.place_of(loop)) for loop in plan.loops()],
+                [(plan.function(answer), plan.place_of(answer)) for answer in plan.answers()]]
+        told += [list(walk(plan, contents, self.functions)), traced(plan, contents, self.functions), one.rows(),
+                 one.calls(self.draw), one.effects(), [one.counted(name) for name in self.schema.functions()],
+                 [one.counted_at(answer) for answer in plan.answers()], one.parts(other)]
+        faults = [([], []), ([(1, 1)], [(2, 2, 4)]), ([], [(1, 1, 2), (1, 1, 2)]), ([], [(1, 1, 2), (2, 1, 2)])]
+        told.append([keeps(self.schema, self.contents(*rows), self.functions) for rows in faults])
+        errors = [lambda: one.counted("none"), lambda: one.counted_at("none"), lambda: plan.place_of("none"),
+                  lambda: keeps(self.schema, contents, {}), lambda: one.calls(self.add),
+                  lambda: plan.with_items(plan.main_items()[1:]), lambda: plan.with_items([("use",)]),
+                  lambda: plan.with_marks([self.names[1]]), lambda: plan.table_of(self.names[0]),
+                  lambda: plan.function(self.names[3])]
+        return told + [error_of(call) for call in errors]
+
+
+def shape(told, names):
+    """Return what was told with the number of each name, of whatever sort it is, in its place."""
+    if isinstance(told, (list, tuple)):
+        return [shape(part, names) for part in told]
+    return names.get(told, told) if isinstance(told, str) else told
+
+
+class Names(unittest.TestCase):
+    def setUp(self):
+        self.sorts = [TABLES, COLUMNS, FUNCTIONS, STEPS]
+        self.told = Shop(*self.sorts).all_told()
+
+    def test_other_names(self):
+        one, other = [{name: at for at, name in enumerate(name for names in sorts for name in names)}
+                      for sorts in (self.sorts, OTHER)]
+        self.assertEqual([15, 15], [len(one), len(other)])
+        self.assertEqual(shape(self.told, one), shape(Shop(*OTHER).all_told(), other))
+
+    def test_names_that_stand_for_things_of_several_sorts(self):
+        told = Shop(*SHARED).all_told()
+        one, other = [{name: at for at, name in enumerate(steps)} for steps in (STEPS, SHARED[3])]
+        # Loops, answers, marks, and rows: these have the names of loops and answers alone.
+        for at in [1, 2, 3, 8, 10]:
+            self.assertEqual(shape(self.told[at], one), shape(told[at], other))
+
+
+if __name__ == "__main__":
+    unittest.main()
