@@ -93,10 +93,14 @@ class Run:
         answer, name, terms = self._steps[place][1:]
         arguments = self._values(terms)
         many = self._count(name)
-        function = self._functions[name]
-        value = function(arguments, many)
+        value = self._answer(place, name, arguments, many)
         self._known[answer] = value
         self._calls.append((answer, name, arguments, many, value, self._numbers(place)))
+
+    def _answer(self, _, name, arguments, many):
+        """Return what a function answers to the call at a place."""
+        function = self._functions[name]
+        return function(arguments, many)
 
     def _count(self, name):
         """Return what many is for the call of a function that is made now, and count this call."""

@@ -56,6 +56,29 @@ RECORDS = '''
 [3, 3, []]
 '''
 
+# Behind [42].
+COUNTS = '''
+>>> from plancalls.counts import bound, settling
+>>> [settling(plan, 3), bound(plan, "t", {"cart": 10 ** 30, "price": 5})]
+[[('c',)], 1000000000000000000000000000000]
+'''
+
+# Behind [53].
+CLOSURES = '''
+>>> from plancalls.schemas import Schema
+>>> from plancalls.plans import Plan
+>>> from plancalls.closures import Closure
+>>> from plancalls.ground import order_keys
+>>> schema = Schema({"orders": ["who", "sum"], "people": ["id", "age"]}, {"old": (1, "fixed"), "log": (1, "effect")}, keys={"people": "id"}, references=[("orders", "who", "people")])
+>>> items = [("each", "o", "orders"), ("each", "p", "people"), ("same", ("o", "who"), ("p", "id")), ("call", "x", "old", (("p", "age"),)), ("unlike", "x", 0)]
+>>> plan = Plan(schema, items, [("o", "sum")], marks=["o"])
+>>> closure = Closure(plan, 5)
+>>> [closure.same(("cell", "o", "who"), ("cell", "p", "id")), closure.had("people", ("cell", "o", "who"))]
+[True, True]
+>>> order_keys(plan, 5)
+[('loop', 'o')]
+'''
+
 
 def result_of(line, session):
     """Return what the document writes behind a line: nothing, a value, or an error."""
@@ -81,7 +104,7 @@ class Examples(unittest.TestCase):
 
     def test_the_examples(self):
         session = {}
-        for many, text in [(6, SCHEMAS), (6, ANSWERS), (4, PLANS), (11, RECORDS)]:
+        for many, text in [(6, SCHEMAS), (6, ANSWERS), (4, PLANS), (11, RECORDS), (2, COUNTS), (10, CLOSURES)]:
             self.assertEqual(many, self.run_examples(text, session))
 
 

@@ -3,7 +3,7 @@
 import inspect
 import unittest
 
-from plancalls import answers, contents, kinds, plans, records, runs, schemas
+from plancalls import answers, closures, contents, counts, ground, kinds, models, plans, records, runs, schemas, ties
 
 FUNCTIONS = {
     kinds: {
@@ -13,6 +13,16 @@ FUNCTIONS = {
     answers: {"keeps": "(schema, contents, functions)"},
     runs: {"walk": "(plan, contents, functions)", "traced": "(plan, contents, functions)"},
     records: {"record": "(plan, contents, functions)"},
+    ties: {
+        "tie_of": "(plan, place, term)", "conditions": "(plan, place)", "inner_ties": "(tie)", "loops_in": "(tie)",
+    },
+    ground: {
+        "is_ground": "(plan, place, tie, loops)", "is_ground_by": "(plan, place, tie, rows)",
+        "is_settled": "(plan, place, loop, loops)", "written": "(plan, place, tie, loops)",
+        "order_keys": "(plan, place)",
+    },
+    counts: {"settling": "(plan, place)", "bound": "(plan, answer, sizes)"},
+    models: {"reaching_case": "(plan, place)", "counter_case": "(plan, place, claim)"},
 }
 CLASSES = {
     schemas: {
@@ -56,6 +66,13 @@ CLASSES = {
         },
     },
 }
+CLASSES[closures] = {
+    "Closure": {
+        "__init__": "(self, plan, place, *, more=())", "clashes": "(self)", "classes": "(self)",
+        "same": "(self, one, other)", "unlike": "(self, one, other)", "had": "(self, table, tie)",
+        "entails": "(self, claim)",
+    },
+}
 PROPERTIES = [(contents.Contents, "schema"), (answers.Answers, "rest"), (answers.Answers, "step"),
               (plans.Plan, "schema")]
 
@@ -90,7 +107,8 @@ class Interface(unittest.TestCase):
     def test_what_stands_behind_the_star_is_passed_by_keyword(self):
         schema = schemas.Schema({}, {})
         for call in [lambda: schemas.Schema({}, {}, None), lambda: answers.Answers({}, 0),
-                     lambda: plans.Plan(schema, [], [], [])]:
+                     lambda: plans.Plan(schema, [], [], []),
+                     lambda: closures.Closure(plans.Plan(schema, []), 0, [])]:
             self.assertRaises(TypeError, call)
 
 

@@ -3,11 +3,15 @@
 import unittest
 
 from plancalls.answers import Answers, keeps
+from plancalls.closures import Closure
 from plancalls.contents import Contents
+from plancalls.counts import bound, settling
+from plancalls.ground import order_keys
 from plancalls.plans import Plan
 from plancalls.records import record
 from plancalls.runs import traced, walk
 from plancalls.schemas import Schema
+from plancalls.ties import conditions, inner_ties, loops_in, tie_of
 from things import error_of
 
 TABLES = ["cart", "price"]
@@ -66,6 +70,17 @@ class Shop:
                   lambda: plan.function(self.names[3])]
         return told + [error_of(call) for call in errors]
 
+    def conditions_told(self):
+        """Return what is told of the conditions at each place, but for what may be told in several ways."""
+        plan, sizes = self.plan, {self.cart: 3, self.price: 4}
+        more = [("same", ("look", self.price, self.sum, ("cell", self.names[3], self.item)), ("told", self.draw, 0))]
+        told = [[conditions(plan, place), Closure(plan, place).classes(), order_keys(plan, place),
+                 settling(plan, place)] for place in range(9)]
+        told.append([tie_of(plan, 8, answer) for answer in plan.answers()])
+        told += [[inner_ties(tie), loops_in(tie)] for tie in told[-1]]
+        told += [Closure(plan, 8, more=more).classes(), [bound(plan, answer, sizes) for answer in plan.answers()]]
+        return told + [error_of(lambda: bound(plan, "none", sizes))]
+
 
 def shape(told, names):
     """Return what was told with the number of each name, of whatever sort it is, in its place."""
@@ -84,6 +99,12 @@ class Names(unittest.TestCase):
                       for sorts in (self.sorts, OTHER)]
         self.assertEqual([15, 15], [len(one), len(other)])
         self.assertEqual(shape(self.told, one), shape(Shop(*OTHER).all_told(), other))
+
+    def test_other_names_in_conditions(self):
+        one, other = [{name: at for at, name in enumerate(name for names in sorts for name in names)}
+                      for sorts in (self.sorts, OTHER)]
+        told, others = [Shop(*sorts).conditions_told() for sorts in (self.sorts, OTHER)]
+        self.assertEqual(shape(told, one), shape(others, other))
 
     def test_names_that_stand_for_things_of_several_sorts(self):
         told = Shop(*SHARED).all_told()

@@ -1,0 +1,145 @@
+"""Builds: contents in which the classes of ties have values, and rows of their own."""
+
+from plancalls.contents import Contents
+
+# The row to which all references lead that no tie speaks of; no loop has an empty name.
+SPARE = ""
+
+
+class Build:
+    """Contents that show Bonds that do not clash: each class has another value, and a table just the rows it needs.
+
+    A row is told as a tuple (table, owner): the class of its key, its loop if the table has no key, or SPARE.
+    """
+
+    def __init__(self, schema, bonds, first=(), last=()):
+        self._schema = schema
+        self._bonds = bonds
+        self._values = values_of(bonds)
+        self._spare = unused_values(1, self._values)[0]
+        self._answers = {name: {} for name in schema.functions()}
+        self._told = {}
+        self._rows = {}
+        self._put_in_rows()
+        self._put_in_values()
+        self._put_in_spares()
+        self._order = {table: self._ordered(table, first, last) for table in schema.tables()}
+
+    def spare(self):
+        """Return a value that no class has."""
+        return self._spare
+
+    def told(self):
+        """Return the dict from tuples (stream, index) to the values of the answers of sites."""
+        return {site: self._told[site] for site in self._told}
+
+    def answers(self, name):
+        """Return the dict of what a function that is asked by ties answers, as Answers take it."""
+        return {question: self._answers[name][question] for question in self._answers[name]}
+
+    def contents(self):
+        """Return the Contents."""
+        rows = {table: [self._row(row) for row in self._order[table]] for table in self._order}
+        return Contents(self._schema, rows)
+
+    def number_of(self, loop):
+        """Return the number of the row at which an open loop is."""
+        row = row_of(self._schema, self._bonds, loop)
+        return self._order[row[0]].index(row)
+
+    def _put_in_rows(self):
+        """Note the rows of the loops and those that are had, each with its key."""
+        for table, head in self._bonds.rows_had():
+            self._rows[(table, head)] = {self._schema.key(table): self._values[head]}
+        for loop, table in self._bonds.tables().items():
+            if self._schema.key(table) is None:
+                self._rows[(table, loop)] = {}
+
+    def _put_in_values(self):
+        """Note the values of the ties."""
+        for number in range(self._bonds.many()):
+            parts = self._bonds.parts(number)
+            value = self._values[self._bonds.head(number)]
+            if parts[0] == "cell":
+                row = row_of(self._schema, self._bonds, parts[1])
+                self._rows[row][parts[2]] = value
+            elif parts[0] == "look" and (parts[1], self._bonds.head(parts[3])) in self._rows:
+                self._rows[(parts[1], self._bonds.head(parts[3]))][parts[2]] = value
+            elif parts[0] == "ask":
+                arguments = tuple([self._values[self._bonds.head(part)] for part in parts[2]])
+                self._answers[parts[1]][(arguments, 0)] = value
+            elif parts[0] == "told":
+                self._told[parts[1:]] = value
+
+    def _put_in_spares(self):
+        """Note the rows to which columns without a tie lead, and those to which these lead."""
+        waiting = list(self._rows)
+        while waiting:
+            row = waiting.pop()
+            for column in self._schema.columns(row[0]):
+                if column not in self._rows[row] or row[1] == SPARE:
+                    waiting.extend(self._new_spares(self._schema.targets(row[0], column)))
+
+    def _new_spares(self, tables):
+        """Note the spare rows of tables, and return those that were not there."""
+        new = [(table, SPARE) for table in tables if (table, SPARE) not in self._rows]
+        for row in new:
+            self._rows[row] = {self._schema.key(row[0]): self._spare}
+        return new
+
+    def _ordered(self, table, first, last):
+        """Return the list of the rows of a table, some of them ahead of all others or behind them."""
+        rows = [row for row in self._rows if row[0] == table]
+        ahead = [row for row in rows if row in first]
+        behind = [row for row in rows if row in last]
+        return ahead + [row for row in rows if row not in ahead + behind] + behind
+
+    def _row(self, row):
+        """Return a row as it stands in the Contents."""
+        known = dict(self._rows[row])
+        columns = self._schema.columns(row[0])
+        for column in columns:
+            self._fill(row[0], known, column)
+        return tuple([known[column] for column in columns])
+
+    def _fill(self, table, known, column):
+        """Give a column a value, if no tie gave it one."""
+        if column in known:
+            return
+        origin = self._schema.made_of(table, column)
+        if origin is None:
+            known[column] = self._spare
+            return
+        function, sources = origin
+        for source in sources:
+            self._fill(table, known, source)
+        arguments = tuple([known[source] for source in sources])
+        known[column] = self._answers[function].get((arguments, 0), self._spare)
+
+
+def values_of(bonds):
+    """Return the dict from classes to values: their integers, and other ones for those that have none."""
+    found = {}
+    for number in range(bonds.many()):
+        if bonds.parts(number)[0] == "int":
+            found[bonds.head(number)] = bonds.parts(number)[1]
+    heads = [bonds.head(number) for number in range(bonds.many())]
+    others = [head for head in sorted(set(heads)) if head not in found]
+    found.update(dict(zip(others, unused_values(len(others), found))))
+    return found
+
+
+def unused_values(many, found):
+    """Return a list of integers from 0 on that are no values of a dict."""
+    used = list(found.values())
+    free = [value for value in range(len(used) + many) if value not in used]
+    return free[:many]
+
+
+def row_of(schema, bonds, loop):
+    """Return the row at which an open loop is."""
+    table = bonds.tables()[loop]
+    key = schema.key(table)
+    if key is None:
+        return (table, loop)
+    return (table, bonds.head_of(("cell", loop, key)))
