@@ -189,22 +189,41 @@ def leads_of(schema):
 def with_claim(bonds, claim):
     """Return Bonds with the ties of a claim; those of an unlike become equal, as only a clash speaks for it."""
     tried = bonds.copied()
-    if claim[0] == "had":
-        tried.number(claim[2])
-    elif claim[0] == "same":
-        tried.number(claim[1])
-        tried.number(claim[2])
-    else:
+    if claim[0] == "unlike":
         tried.bind("same", claim[1], claim[2])
+    else:
+        put_in_ties(tried, claim)
     tried.settle()
     return tried
 
 
+def put_in_ties(bonds, claim):
+    """Put the ties of a claim into Bonds."""
+    for tie in (claim[2:] if claim[0] == "had" else claim[1:]):
+        bonds.number(tie)
+
+
 def is_entailed(bonds, claim):
     """Return whether settled Bonds entail a claim."""
+    return bonds.clashes() or holds(with_claim(bonds, claim), claim)
+
+
+def are_entailed(bonds, claims):
+    """Return whether settled Bonds entail each of the claims."""
     if bonds.clashes():
         return True
-    tried = with_claim(bonds, claim)
+    tried = bonds.copied()
+    for claim in claims:
+        put_in_ties(tried, claim)
+    tried.settle()
+    for claim in claims:
+        if not holds(with_claim(tried, claim) if claim[0] == "unlike" else tried, claim):
+            return False
+    return True
+
+
+def holds(tried, claim):
+    """Return whether a claim is entailed by Bonds that do not clash, to which its ties were put as with_claim does."""
     if claim[0] == "had":
         return tried.has_row(claim[1], tried.head_of(claim[2]))
     if claim[0] == "same":

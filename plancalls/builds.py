@@ -91,7 +91,7 @@ class Build:
         """Return the list of the rows of a table, some of them ahead of all others or behind them."""
         rows = [row for row in self._rows if row[0] == table]
         ahead = [row for row in rows if row in first]
-        behind = [row for row in rows if row in last]
+        behind = [row for row in rows if row in last and row not in first]
         return ahead + [row for row in rows if row not in ahead + behind] + behind
 
     def _row(self, row):

@@ -40,6 +40,10 @@ class Forms:
 
     def ties(self):
         """Return the list of all ties, in the order of their numbers."""
+        return self.changed(lambda tie: tie)
+
+    def changed(self, change):
+        """Return the list of all ties, in which change was made to each one that has no inner ties."""
         found = []
         for parts in self._parts:
             if parts[0] == "look":
@@ -47,5 +51,12 @@ class Forms:
             elif parts[0] == "ask":
                 found.append(("ask", parts[1], tuple([found[part] for part in parts[2]])))
             else:
-                found.append(parts)
+                found.append(change(parts))
         return found
+
+
+def changed_tie(tie, change):
+    """Return a tie in which change was made to each inner tie that has none itself."""
+    forms = Forms()
+    number = forms.number(tie)
+    return forms.changed(change)[number]

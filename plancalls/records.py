@@ -71,5 +71,9 @@ class Record:
 def record(plan, contents, functions):
     """Run a plan once and return the Record of the run."""
     run = Run(plan, contents, functions)
-    rows = run.rows_left()
+    return record_of(plan, run.rows_left(), run)
+
+
+def record_of(plan, rows, run):
+    """Return the Record of a run that has come to its end, with the rows that it gave out."""
     return Record(plan, rows, run.calls())

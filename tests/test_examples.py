@@ -79,6 +79,28 @@ CLOSURES = '''
 [('loop', 'o')]
 '''
 
+# Behind [61].
+ALIKE = '''
+>>> from plancalls.alike import are_alike, compare
+>>> items = [("each", "o", "orders"), ("call", "x", "old", (("o", "who"),))]
+>>> one = Plan(schema, items, ["x"], marks=["o"])
+>>> other = Plan(schema, [("each", "o", "orders"), ("each", "p", "people"), ("same", ("p", "id"), ("o", "who")), ("call", "x", "old", (("p", "id"),))], ["x"], marks=["o"])
+>>> [are_alike(one, other), compare(one, plan)]
+[True, ('.', 0, 'conditions')]
+'''
+
+# Behind [72].
+FREEST = '''
+>>> from plancalls.freest import freest, stop
+>>> from plancalls.parting import differences, is_case, parting_case
+>>> early = Plan(schema, [("each", "o", "orders"), ("call", "x", "old", (("o", "who"),)), ("unlike", ("o", "sum"), 0)], ["x"], marks=["o"])
+>>> late = Plan(schema, [("each", "o", "orders"), ("unlike", ("o", "sum"), 0), ("call", "x", "old", (("o", "who"),))], ["x"], marks=["o"])
+>>> [freest(one, other), freest(early, late), stop(early, late, (("old", "effect"),))[0]]
+[[(('old', 'effect'),)], [(('old', 'stable'),)], 'parted']
+>>> [parting_case(one, other), is_case(one, plan, parting_case(one, plan))]
+[None, True]
+'''
+
 
 def result_of(line, session):
     """Return what the document writes behind a line: nothing, a value, or an error."""
@@ -104,7 +126,8 @@ class Examples(unittest.TestCase):
 
     def test_the_examples(self):
         session = {}
-        for many, text in [(6, SCHEMAS), (6, ANSWERS), (4, PLANS), (11, RECORDS), (2, COUNTS), (10, CLOSURES)]:
+        for many, text in [(6, SCHEMAS), (6, ANSWERS), (4, PLANS), (11, RECORDS), (2, COUNTS), (10, CLOSURES),
+                           (5, ALIKE), (6, FREEST)]:
             self.assertEqual(many, self.run_examples(text, session))
 
 

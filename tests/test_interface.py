@@ -3,7 +3,8 @@
 import inspect
 import unittest
 
-from plancalls import answers, closures, contents, counts, ground, kinds, models, plans, records, runs, schemas, ties
+from plancalls import (alike, answers, closures, contents, counts, freest, ground, kinds, models, parting, plans,
+                       records, runs, schemas, sites, ties)
 
 FUNCTIONS = {
     kinds: {
@@ -23,6 +24,23 @@ FUNCTIONS = {
     },
     counts: {"settling": "(plan, place)", "bound": "(plan, answer, sizes)"},
     models: {"reaching_case": "(plan, place)", "counter_case": "(plan, place, claim)"},
+    sites: {
+        "sites": "(plan)", "streams": "(plan)", "loose": "(plan)", "hidden": "(plan)", "is_plain": "(plan)",
+        "marks_wanted": "(plan)",
+    },
+    alike: {
+        "compare": "(one, other)", "are_alike": "(one, other)", "pairs": "(one, other)",
+        "claims": "(one, other, stream, index)",
+    },
+    parting: {
+        "differences": "(one, other, contents, functions)", "is_case": "(one, other, thing)",
+        "parting_case": "(one, other)", "thinned_case": "(one, other, case)",
+    },
+    freest: {
+        "assigned": "(plan, assignment)", "assignments": "(one, other)", "works": "(one, other, assignment)",
+        "freest": "(one, other)", "stop": "(one, other, assignment)", "freest_paper": "(one, other)",
+        "is_freest_paper": "(one, other, goods, bads)",
+    },
 }
 CLASSES = {
     schemas: {
@@ -103,6 +121,7 @@ class Interface(unittest.TestCase):
     def test_static_methods_and_generators(self):
         self.assertIsInstance(vars(answers.Answers)["always"], staticmethod)
         self.assertTrue(inspect.isgeneratorfunction(runs.walk))
+        self.assertTrue(inspect.isgeneratorfunction(freest.assignments))
 
     def test_what_stands_behind_the_star_is_passed_by_keyword(self):
         schema = schemas.Schema({}, {})

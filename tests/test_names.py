@@ -2,15 +2,19 @@
 
 import unittest
 
+from plancalls.alike import claims, compare, pairs
 from plancalls.answers import Answers, keeps
 from plancalls.closures import Closure
 from plancalls.contents import Contents
 from plancalls.counts import bound, settling
+from plancalls.freest import freest, freest_paper
 from plancalls.ground import order_keys
+from plancalls.parting import differences
 from plancalls.plans import Plan
 from plancalls.records import record
 from plancalls.runs import traced, walk
 from plancalls.schemas import Schema
+from plancalls.sites import hidden, loose, marks_wanted, sites, streams
 from plancalls.ties import conditions, inner_ties, loops_in, tie_of
 from things import error_of
 
@@ -81,6 +85,26 @@ class Shop:
         told += [Closure(plan, 8, more=more).classes(), [bound(plan, answer, sizes) for answer in plan.answers()]]
         return told + [error_of(lambda: bound(plan, "none", sizes))]
 
+    def compared(self):
+        """Return what is told of plans side by side, but for what may be told in several ways."""
+        a, b, k, p, q, x = self.names
+        items = [("each", k, self.cart), ("call", a, self.add, ((k, self.sum), 1)), ("unlike", a, 0),
+                 ("call", b, self.log, (a,)), ("each", p, self.price), ("same", (k, self.item), (p, self.item)),
+                 ("call", q, self.now, ()), ("call", x, self.draw, ((p, self.cost),))]
+        plan = Plan(self.schema, items, [a, (p, self.sum)], marks=[k])
+        others = [plan, plan.with_items([items[at] for at in [0, 4, 5, 1, 2, 3, 6, 7]]), plan.with_shown([a]),
+                  plan.with_items([items[at] for at in [0, 1, 2, 4, 5, 3, 6, 7]]),
+                  plan.with_items([items[at] for at in [0, 6, 1, 2, 3, 4, 5, 7]]),
+                  plan.with_marks([k, p]), plan.with_items(items[:2] + items[3:])]
+        told = [sites(self.plan), streams(plan), loose(self.plan), hidden(plan.with_marks([])), marks_wanted(plan)]
+        told += [[compare(plan, other), pairs(plan, other), freest(plan, other)] for other in others]
+        told.append([[assignment for assignment, _ in freest_paper(plan, other)[1]] for other in others])
+        contents = self.contents([(1, 5), (2, 4)], [(1, 3, 4), (2, 7, 9)])
+        told += [differences(plan, other, contents, self.functions) for other in others]
+        errors = [lambda: compare(plan, self.plan), lambda: compare(plan, plan.with_marks([])),
+                  lambda: claims(plan, plan, self.now, 0), lambda: claims(plan, plan, self.draw, 1)]
+        return told + [error_of(call) for call in errors]
+
 
 def shape(told, names):
     """Return what was told with the number of each name, of whatever sort it is, in its place."""
@@ -104,6 +128,12 @@ class Names(unittest.TestCase):
         one, other = [{name: at for at, name in enumerate(name for names in sorts for name in names)}
                       for sorts in (self.sorts, OTHER)]
         told, others = [Shop(*sorts).conditions_told() for sorts in (self.sorts, OTHER)]
+        self.assertEqual(shape(told, one), shape(others, other))
+
+    def test_other_names_in_plans_side_by_side(self):
+        one, other = [{name: at for at, name in enumerate(name for names in sorts for name in names)}
+                      for sorts in (self.sorts, OTHER)]
+        told, others = [Shop(*sorts).compared() for sorts in (self.sorts, OTHER)]
         self.assertEqual(shape(told, one), shape(others, other))
 
     def test_names_that_stand_for_things_of_several_sorts(self):
