@@ -103,7 +103,8 @@ class Bonds:
 
     def _put_in_new(self):
         """Give the ties that were put in a class of their own each."""
-        self._heads.extend(list(range(len(self._heads), self._forms.many())))
+        first = len(self._heads)
+        self._heads.extend(list(range(first, self._forms.many())))
 
     def _join(self, one, other):
         """Make one class of those of two ties."""
@@ -209,9 +210,7 @@ def is_entailed(bonds, claim):
 
 
 def are_entailed(bonds, claims):
-    """Return whether settled Bonds entail each of the claims."""
-    if bonds.clashes():
-        return True
+    """Return whether settled Bonds that do not clash entail each of the claims."""
     tried = bonds.copied()
     for claim in claims:
         put_in_ties(tried, claim)

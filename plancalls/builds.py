@@ -12,7 +12,7 @@ class Build:
     A row is told as a tuple (table, owner): the class of its key, its loop if the table has no key, or SPARE.
     """
 
-    def __init__(self, schema, bonds, first=(), last=()):
+    def __init__(self, schema, bonds, first=()):
         self._schema = schema
         self._bonds = bonds
         self._values = values_of(bonds)
@@ -23,7 +23,7 @@ class Build:
         self._put_in_rows()
         self._put_in_values()
         self._put_in_spares()
-        self._order = {table: self._ordered(table, first, last) for table in schema.tables()}
+        self._order = {table: self._ordered(table, first) for table in schema.tables()}
 
     def spare(self):
         """Return a value that no class has."""
@@ -87,12 +87,10 @@ class Build:
             self._rows[row] = {self._schema.key(row[0]): self._spare}
         return new
 
-    def _ordered(self, table, first, last):
-        """Return the list of the rows of a table, some of them ahead of all others or behind them."""
+    def _ordered(self, table, first):
+        """Return the list of the rows of a table, some of them ahead of all others."""
         rows = [row for row in self._rows if row[0] == table]
-        ahead = [row for row in rows if row in first]
-        behind = [row for row in rows if row in last and row not in first]
-        return ahead + [row for row in rows if row not in ahead + behind] + behind
+        return [row for row in rows if row in first] + [row for row in rows if row not in first]
 
     def _row(self, row):
         """Return a row as it stands in the Contents."""
@@ -125,8 +123,8 @@ def values_of(bonds):
             found[bonds.head(number)] = bonds.parts(number)[1]
     heads = [bonds.head(number) for number in range(bonds.many())]
     others = [head for head in sorted(set(heads)) if head not in found]
-    found.update(dict(zip(others, unused_values(len(others), found))))
-    return found
+    free = dict(zip(others, unused_values(len(others), found)))
+    return {**found, **free}
 
 
 def unused_values(many, found):

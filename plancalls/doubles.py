@@ -2,12 +2,15 @@
 
 from plancalls.forms import changed_tie
 
-# What stands behind the names of loops and streams at the second point: no name has it.
+# What stands behind the names of loops at the second point: no name has it.
 SECOND = "2"
 
 
 def doubled(outline, place, shared):
-    """Return Bonds with the conditions at a place twice: at two points, of which some order keys are shared."""
+    """Return Bonds with the conditions at a place twice: at two points, of which some order keys are shared.
+
+    The answers of sites are shared, too: two plans call alike ahead of the order keys at which they part.
+    """
     bonds = outline.bonds(place)
     loops = shared_loops(shared)
     for loop, table in bonds.tables().items():
@@ -18,35 +21,7 @@ def doubled(outline, place, shared):
     for row in shared:
         if row[0] == "row":
             bonds.bind("same", row[2], second_tie(row[2], loops))
-    bonds.settle()
-    share_answers(outline, place, bonds, loops)
     return bonds
-
-
-def share_answers(outline, place, bonds, loops):
-    """Join the answers of sites at two points if their order keys are shared: it is one call that both have."""
-    left = [site for site in outline.sites() if is_within(outline, site[2], place)]
-    changed = True
-    while changed:
-        changed = False
-        for site in list(left):
-            if all([is_shared(bonds, row, second_row(row, loops)) for row in outline.order_keys(site[2])]):
-                tie = ("told", *site[:2])
-                bonds.bind("same", tie, second_tie(tie, loops))
-                bonds.settle()
-                left.remove(site)
-                changed = True
-
-
-def is_shared(bonds, one, other):
-    """Return whether an order key is the same row at both points."""
-    return one == other or (one[0] == "row" and bonds.head_of(one[2]) == bonds.head_of(other[2]))
-
-
-def is_within(outline, place, end):
-    """Return whether all loops that are open at a place are open at another one."""
-    loops = outline.plan().open_at(end)
-    return all([loop in loops for loop in outline.plan().open_at(place)])
 
 
 def shared_loops(rows):
@@ -63,13 +38,11 @@ def second_leaf(tie, shared):
     """Return a tie that has no inner ties as it is at the second point."""
     if tie[0] == "cell" and tie[1] not in shared:
         return ("cell", tie[1] + SECOND, tie[2])
-    if tie[0] == "told":
-        return ("told", tie[1] + SECOND, tie[2])
     return tie
 
 
 def second_row(row, shared):
-    """Return an order key as it is at the second point."""
+    """Return an order key that is not shared as it is at the second point."""
     if row[0] == "loop":
-        return ("loop", row[1] if row[1] in shared else row[1] + SECOND)
+        return ("loop", row[1] + SECOND)
     return ("row", row[1], second_tie(row[2], shared))

@@ -28,4 +28,4 @@ def case_at(outline, bonds):
     """Return the case that shows Bonds, and the dict of the numbers of the rows at which the open loops are."""
     build = Build(outline.plan().schema, bonds)
     numbers = {loop: build.number_of(loop) for loop in bonds.tables()}
-    return (scripted_case(outline, build, [(numbers, build.told())]), numbers)
+    return (scripted_case(outline, build), numbers)

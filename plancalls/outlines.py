@@ -72,7 +72,8 @@ class Outline:
         while many != len(found):
             many = len(found)
             # A round takes only what earlier rounds found: so the ties stay as flat as can be.
-            found.update(next_ground(bonds, begun, keys, found))
+            new = next_ground(bonds, begun, keys, found)
+            found.update(new)
         return found
 
     def settled_by(self, place, loops):

@@ -3,7 +3,7 @@
 from plancalls.bonds import is_entailed, with_claim
 from plancalls.builds import Build, row_of
 from plancalls.contrasts import differ
-from plancalls.doubles import SECOND, doubled, second_row, shared_loops
+from plancalls.doubles import doubled, second_row, shared_loops
 from plancalls.models import case_at
 from plancalls.scripts import scripted_case
 from plancalls.sites import streams
@@ -55,26 +55,18 @@ def tried(sides, case):
 
 def case_of_orders(sides, which, place, other_place):
     """Return a case with two points at which the plans are in different order, or None."""
-    outline = sides.outline(which)
-    own = outline.order_keys(place)
+    own = sides.outline(which).order_keys(place)
     others = sides.order_keys(1 - which, other_place)
     many = sides.shared_keys(which, place, other_place)
-    bonds = doubled(outline, place, own[:many])
-    shared = shared_loops(own[:many])
-    first, last = [], []
-    if many < len(own):
-        first.append(own[many])
-        last.append(second_row(own[many], shared))
-    if many < len(others):
-        first.append(second_row(others[many], shared))
-        last.append(others[many])
-    for row in first + last:
+    bonds = doubled(sides.outline(which), place, own[:many])
+    # The first point comes first by the own key, the second one by the other plan's key.
+    first = own[many:many + 1] + [second_row(row, shared_loops(own[:many])) for row in others[many:many + 1]]
+    for row in first:
         if row[0] == "row":
             bonds.number(row[2])
     bonds.settle()
-    build = Build(sides.plan(0).schema, bonds, [row_told(sides, bonds, row) for row in first],
-                  [row_told(sides, bonds, row) for row in last])
-    return tried(sides, scripted_case(outline, build, points_of(outline, place, build, shared)))
+    build = Build(sides.plan(0).schema, bonds, [row_told(sides, bonds, row) for row in first])
+    return tried(sides, scripted_case(sides.outline(which), build))
 
 
 def row_told(sides, bonds, row):
@@ -82,13 +74,3 @@ def row_told(sides, bonds, row):
     if row[0] == "loop":
         return row_of(sides.plan(0).schema, bonds, row[1])
     return (row[1], bonds.head_of(row[2]))
-
-
-def points_of(outline, place, build, shared):
-    """Return the two points, tuples of the numbers of the rows and of what sites are to answer there."""
-    told = build.told()
-    loops = outline.plan().open_at(place)
-    first = {loop: build.number_of(loop) for loop in loops}
-    second = {loop: build.number_of(second_row(("loop", loop), shared)[1]) for loop in loops}
-    wanted = {(site[0][:-1], site[1]): told[site] for site in told if site[0].endswith(SECOND)}
-    return [(first, told), (second, wanted)]

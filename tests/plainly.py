@@ -13,7 +13,8 @@ class PlainRun:
 
     def __init__(self, plan, contents, functions):
         self.plan, self.contents, self.functions = plan, contents, functions
-        self.rows, self.calls, self.kept = [], [], []
+        self.rows, self.calls, self.kept, self.many = [], [], [], {}
+        self.effects = [name for name in plan.schema.functions() if plan.schema.kind(name) == "effect"]
         self.run(plan.kept(), {}, {}, self.keep)
         self.run(plan.main_items(), {}, {}, self.give_out)
 
@@ -46,12 +47,12 @@ class PlainRun:
     def call(self, item, numbers, answers):
         _, name, function, terms = item
         kind = self.plan.schema.kind(function)
-        earlier = [call[1] for call in self.calls]
         many = 0
         if kind == "changing":
-            many = earlier.count(function)
+            many = self.many.get(function, 0)
         if kind == "effect":
-            many = len([other for other in earlier if self.plan.schema.kind(other) == "effect"])
+            many = sum([self.many.get(other, 0) for other in self.effects])
+        self.many[function] = self.many.get(function, 0) + 1
         arguments = tuple(self.value(term, numbers, answers) for term in terms)
         value = self.functions[function](arguments, many)
         self.calls.append((name, function, arguments, many, value, self.marked(numbers)))

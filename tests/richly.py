@@ -13,7 +13,7 @@ FUNCTIONS = {"fix": (1, "fixed"), "gix": (2, "fixed"), "one": (0, "fixed"), "sta
 
 def rich_schema(chance):
     """Return a Schema of some tables: most with keys, many references, a few made columns."""
-    tables = {name: ["x", "y", "z"][:chance.randint(1, 3)] for name in ["a", "b", "c"][:chance.randint(1, 3)]}
+    tables = {name: chance.sample(["x", "y", "z"], chance.randint(1, 3)) for name in "abc"[:chance.randint(1, 3)]}
     functions = dict(chance.sample(sorted(FUNCTIONS.items()), 6))
     keys = {name: chance.choice(tables[name]) for name in tables if chance.random() < 0.7}
     made = []

@@ -32,11 +32,12 @@ class Settling(unittest.TestCase):
         self.assertEqual([("l",)], settling(plan, 6))
 
     def test_sets_of_unlike_sizes(self):
-        # The answer needs both t and u; l alone settles them, and they settle l.
-        plan = planned(T, U, ("each", "l", "land"), ("call", "x", "add", (("t", "id"), ("u", "id"))),
-                       ("same", ("l", "id"), "x"), ("call", "y", "now", (("l", "id"),)), ("same", ("t", "id"), "y"),
-                       ("call", "z", "fix", (("l", "id"),)), ("same", ("u", "id"), "z"))
-        self.assertEqual([("l",), ("t", "u")], settling(plan, 9))
+        # The first answer needs both t and u; the loop over land alone settles them, and they settle it.
+        for loop, expected in [("l", [("l",), ("t", "u")]), ("tt", [("t", "u"), ("tt",)])]:
+            plan = planned(T, U, ("each", loop, "land"), ("call", "x", "add", (("t", "id"), ("u", "id"))),
+                           ("same", (loop, "id"), "x"), ("call", "y", "now", ((loop, "id"),)),
+                           ("same", ("t", "id"), "y"), ("call", "z", "fix", ((loop, "id"),)), ("same", ("u", "id"), "z"))
+            self.assertEqual(expected, settling(plan, 9))
 
     def test_none_is_needed(self):
         self.assertEqual([()], settling(planned(T, ("same", ("t", "id"), 1)), 2))

@@ -124,6 +124,12 @@ class GroundByRows(GroundCase):
         self.assertIs(True, is_ground_by(plan, 3, KEY_T, [row("town", cell("w", "cost"))]))
         self.assertIs(False, is_ground_by(plan, 2, KEY_T, [row("town", cell("w", "cost"))]))
 
+    def test_a_row_of_a_tie_that_does_not_occur(self):
+        plan = planned(W, T, ("same", ("w", "cost"), ("t", "id")))
+        rows = [row("town", look("town", "near", cell("w", "cost")))]
+        self.assertIs(True, is_ground_by(plan, 3, look("town", "near", KEY_T), rows))
+        self.assertIs(False, is_ground_by(plan, 2, look("town", "near", KEY_T), rows))
+
     def test_no_rows_and_several(self):
         plan = planned(W, V, T)
         tie = ask("add", cell("w", "cost"), ask("add", cell("v", "cost"), KEY_T))
@@ -182,6 +188,17 @@ class Told(GroundCase):
         self.assertEqual([[], [], [row("town", KEY_T)], []], [order_keys(plan, place) for place in range(4)])
         self.assert_ground(plan, 8, told("", 0), [])
         self.assertEqual([("loop", "w")], order_keys(plan, 8))
+
+
+class Names(GroundCase):
+    def test_a_loop_with_the_name_of_a_function_and_of_a_table(self):
+        plan = planned(("each", "draw", "ware"), V, ("call", "x", "draw", (1,)))
+        self.assert_ground(plan, 3, cell("draw", "cost"), ["draw"])
+        self.assert_not_ground(plan, 3, told("draw", 0), ["draw"])
+        self.assert_not_ground(plan, 2, told("draw", 0), ["draw", "v"])
+        plan = planned(("each", "town", "town"), T, ("same", ("town", "near"), ("t", "near")))
+        self.assert_not_ground(plan, 3, look("town", "land", KEY_T), ["town"])
+        self.assert_ground(plan, 3, look("town", "near", KEY_T), ["town"])
 
 
 class Settled(unittest.TestCase):

@@ -18,6 +18,12 @@ from richly import rich_contents, rich_functions, rich_plan, rich_schema
 W, V, T, U = ("each", "w", "ware"), ("each", "v", "ware"), ("each", "t", "town"), ("each", "u", "town")
 
 
+# Made columns that stand ahead of those that they are made of.
+AHEAD = Schema({"sums": ["top", "mid", "low", "id"], "part": ["all", "to"]}, {"inc": (1, "fixed"), "log": (0, "effect")},
+               keys={"sums": "id"}, references=[("part", "to", "sums")],
+               made=[("sums", "top", "inc", ("mid",)), ("sums", "mid", "inc", ("low",)), ("part", "all", "inc", ("to",))])
+
+
 class ModelCase(unittest.TestCase):
     def assert_reached(self, plan, place=None):
         """Check the case that reaches a place, the end if none is told, and return it."""
@@ -54,6 +60,10 @@ class Reaching(ModelCase):
         planned(("each", "s", "sale"), ("each", "g", "goods"), ("same", ("s", "good"), ("g", "id")),
                 ("unlike", ("s", "sum"), ("g", "mid")), schema=CHAIN),
         planned(("each", "n", "note"), ("each", "m", "mayor"), ("same", ("n", "who"), ("m", "id"))),
+        planned(("each", "s", "sums"), ("each", "p", "part"), schema=AHEAD),
+        planned(("each", "s", "sums"), ("same", ("s", "low"), 3), ("each", "p", "part"), ("same", ("p", "all"), 3),
+                schema=AHEAD),
+        planned(("each", "s", "sums"), ("same", ("s", "mid"), ("s", "id")), ("unlike", ("s", "top"), 0), schema=AHEAD),
     ]
 
     def test_every_place_of_some_plans(self):

@@ -109,6 +109,9 @@ class InnerTies(unittest.TestCase):
         self.assertEqual(["a"], loops_in(cell("a", "id")))
         tie = ask("add", look("town", "near", cell("t", "id")), ask("add", cell("a", "id"), cell("t", "land")))
         self.assertEqual(["a", "t"], loops_in(tie))
+        for loop in "gcxe":
+            tie = ask("add", tie, cell(loop, "cost"))
+        self.assertEqual(["a", "c", "e", "g", "t", "x"], loops_in(tie))
 
 
 if __name__ == "__main__":
