@@ -2,7 +2,7 @@
 
 from plancalls.contents import Contents
 
-# The row to which all references lead that no tie speaks of; no loop has an empty name.
+# Where references lead that no tie speaks of, if there is no other row; no loop has an empty name.
 SPARE = ""
 
 
@@ -22,7 +22,7 @@ class Build:
         self._rows = {}
         self._put_in_rows()
         self._put_in_values()
-        self._put_in_spares()
+        self._put_in_leads()
         self._order = {table: self._ordered(table, first) for table in schema.tables()}
 
     def spare(self):
@@ -71,21 +71,32 @@ class Build:
             elif parts[0] == "told":
                 self._told[parts[1:]] = value
 
-    def _put_in_spares(self):
-        """Note the rows to which columns without a tie lead, and those to which these lead."""
-        waiting = list(self._rows)
-        while waiting:
-            row = waiting.pop()
-            for column in self._schema.columns(row[0]):
-                if column not in self._rows[row] or row[1] == SPARE:
-                    waiting.extend(self._new_spares(self._schema.targets(row[0], column)))
+    def _put_in_leads(self):
+        """Give a row to lead to to each column from which references lead and of which no tie speaks."""
+        many = -1
+        while many != len(self._rows):
+            many = len(self._rows)
+            for row in list(self._rows):
+                for column in self._schema.columns(row[0]):
+                    targets = self._schema.targets(row[0], column)
+                    if len(targets) > 0 and column not in self._rows[row]:
+                        self._rows[row][column] = self._key_in(targets)
 
-    def _new_spares(self, tables):
-        """Note the spare rows of tables, and return those that were not there."""
-        new = [(table, SPARE) for table in tables if (table, SPARE) not in self._rows]
-        for row in new:
-            self._rows[row] = {self._schema.key(row[0]): self._spare}
-        return new
+    def _key_in(self, tables):
+        """Return the key of a row that all of these tables have; if there is none, they get a spare one."""
+        for _, owner in self._rows:
+            if all([(table, owner) in self._rows for table in tables]):
+                return self._values.get(owner, self._spare)
+        for table in tables:
+            self._put_in_spare(table)
+        return self._spare
+
+    def _put_in_spare(self, table):
+        """Note the spare row of a table, and those to which its key leads."""
+        if (table, SPARE) not in self._rows:
+            self._rows[(table, SPARE)] = {self._schema.key(table): self._spare}
+            for target in self._schema.targets(table, self._schema.key(table)):
+                self._put_in_spare(target)
 
     def _ordered(self, table, first):
         """Return the list of the rows of a table, some of them ahead of all others."""

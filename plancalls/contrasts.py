@@ -25,13 +25,11 @@ def differ(one, other, case):
     contents, functions = case
     first = Run(one, contents, functions)
     second = Run(other, contents, functions)
-    rows = []
     # The runs go on side by side: the first row that differs is enough.
     row = first.next_row()
     while row == second.next_row():
         if row is None:
-            return record_of(one, rows, first) != record_of(other, rows, second)
-        rows.append(row)
+            return record_of(one, [], first) != record_of(other, [], second)
         row = first.next_row()
     return True
 
@@ -44,7 +42,7 @@ def next_less(one, other, case):
         for number in range(contents.size(table)):
             rows = contents.rows(table)
             del rows[number]
-            less = (contents.with_rows(table, rows), dict(functions))
+            less = (contents.with_rows(table, rows), functions)
             # Rows of a table that no loop goes through make no difference to the runs.
             if keeps(contents.schema, less[0], functions) is None and (table not in run or differ(one, other, less)):
                 return less

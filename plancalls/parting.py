@@ -1,6 +1,6 @@
 """Parting: contents and functions with which the records of two plans differ."""
 
-from plancalls.alike import first_difference, matched, refuse_unlike
+from plancalls.alike import matched, refuse_unlike
 from plancalls.contrasts import differ, is_case_of, next_less
 from plancalls.records import record
 from plancalls.trials import case_of_sides
@@ -23,10 +23,7 @@ def is_case(one, other, thing):
 
 def parting_case(one, other):
     """Return a case with which the records of two plans differ, None if they are alike."""
-    sides = matched(one, other)
-    if first_difference(sides) is None:
-        return None
-    return case_of_sides(sides)
+    return case_of_sides(matched(one, other))
 
 
 def thinned_case(one, other, case):

@@ -10,7 +10,7 @@ from plancalls.sites import streams
 
 
 def case_of_sides(sides):
-    """Return the first case found with which the records of two plans that are not alike differ."""
+    """Return the first case found with which the records of two plans differ, None if they are alike."""
     for which in (0, 1):
         for stream, index in spots(sides):
             case = case_at_spot(sides, which, sides.places(stream, index))

@@ -114,6 +114,19 @@ class Alike(AlikeCase):
         other = planned(U, T, ("same", ("t", "id"), ("u", "id")), PING, marks=["t", "u"])
         self.assert_alike(one, other)
 
+    def test_order_keys_of_loops_that_are_not_marked(self):
+        one = planned(T, W, SETTLED, PING, marks=["w"])
+        other = planned(U, W, ("same", ("u", "id"), ("w", "town")), PING, marks=["w"])
+        self.assert_alike(one, other)
+        self.assert_differ(("", 0, "order"), one, planned(W, PING, marks=["w"]))
+
+    def test_a_loop_with_the_name_of_a_function(self):
+        one = planned(("call", "x", "draw", (1,)), W, ("each", "draw", "town"), ("same", ("draw", "id"), ("w", "town")),
+                      ("unlike", "x", ("draw", "near")), marks=["w"], shown=["x"])
+        other = planned(("call", "x", "draw", (1,)), W, T, SETTLED, ("unlike", ("t", "near"), "x"), marks=["w"],
+                        shown=["x"])
+        self.assert_alike(one, other)
+
     def test_made_columns_and_functions_of_made_columns(self):
         one = marked(("each", "g", "goods"), ("call", "x", "inc", (("g", "low"),)), ("unlike", "x", 0), shown=["x"],
                      schema=CHAIN)
@@ -181,6 +194,17 @@ class Words(AlikeCase):
         self.assert_differ((".", 0, "order"), marked(W, T), marked(T, W))
         one, other = planned(W, T, SETTLED, marks=["w"]), planned(T, W, SETTLED, marks=["w"])
         self.assert_differ((".", 0, "order"), one, other)
+
+    def test_order_by_rows_of_one_key_in_two_tables(self):
+        loops, same = [("each", "l", "land"), ("each", "m", "mayor")], ("same", ("l", "id"), ("m", "id"))
+        self.assert_differ((".", 0, "order"), marked(*loops, same), marked(*loops[::-1], same))
+
+    def test_order_of_a_loop_with_the_name_of_a_table(self):
+        loops = [("each", "town", "ware"), T, V]
+        for first, second in [(0, 1), (1, 2), (0, 2)]:
+            others = list(loops)
+            others[first], others[second] = others[second], others[first]
+            self.assert_differ((".", 0, "order"), marked(*loops), marked(*others))
 
     def test_the_same_order_at_one_site_and_not_at_another_one(self):
         one = marked(W, PING, V, T)

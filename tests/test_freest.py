@@ -293,6 +293,7 @@ class Errors(unittest.TestCase):
     def test_unlike_plans(self):
         other = Schema({"one": ["a"], "two": ["a"]}, {})
         for one, second in [(bare(O), bare(O, schema=BARE.with_kinds({"f": "stable"}))),
+                            (bare(O, marks=[]), bare(O, schema=BARE.with_kinds({"f": "stable"}), marks=[])),
                             (Plan(other, [("each", "o", "one")]), Plan(other, [("each", "o", "two")]))]:
             for call in [lambda: list(assignments(one, second)), lambda: works(one, second, ()),
                          lambda: freest(one, second), lambda: stop(one, second, ()), lambda: freest_paper(one, second),

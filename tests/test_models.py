@@ -75,6 +75,13 @@ class Reaching(ModelCase):
         for plan in [planned(), planned(W), planned(("same", 1, 1), ("unlike", -BIG, BIG))]:
             self.assertEqual({}, self.assert_reached(plan, 0)[1])
 
+    def test_few_rows(self):
+        # References lead to rows that are there, where there are some.
+        for plan, towns, lands in [(planned(T), 1, 1), (planned(W), 1, 1), (planned(("each", "n", "note")), 1, 1),
+                                   (planned(T, U), 2, 1), (planned(T, ("each", "l", "land")), 1, 1)]:
+            contents = self.assert_reached(plan)[0][0]
+            self.assertEqual([towns, lands], [contents.size(table) for table in ["town", "land"]])
+
     def test_conditions_that_clash(self):
         plan = planned(W, ("same", ("w", "cost"), 1), ("same", ("w", "cost"), 2), ("call", "x", "ping", ()))
         self.assertEqual([None, None], [reaching_case(plan, place) for place in [3, 4]])

@@ -194,6 +194,30 @@ class PartingCase(unittest.TestCase):
             behind = [("same", ("w", "cost"), ("t", "near")), ("unlike", ("u", "id"), ("t", "id"))]
             self.check(planned(*loops, *behind, marks=marks), planned(*others, *behind, marks=marks))
 
+    def test_orders_of_rows_that_hang_on_those_that_are_shared(self):
+        # The two rows that come in another order have to belong to one row of the loop ahead of them.
+        q = ("each", "q", "one")
+        tests = [("same", ("o", "a"), ("p", "a")), ("same", ("o", "a"), ("q", "a"))]
+        marks = ["o", "p", "q"]
+        self.check(bare(O, P, q, *tests, marks=marks), bare(O, q, P, *tests, marks=marks))
+        for name in ["w", "town"]:
+            loops = [("each", "t", "town"), ("each", name, "ware"), ("each", "n", "note")]
+            tests = [("same", ("t", "id"), (name, "cost")), ("same", ("t", "id"), ("n", "text"))]
+            marks = ["n", "t", name]
+            self.check(planned(*loops, *tests, marks=marks), planned(loops[0], *loops[:0:-1], *tests, marks=marks))
+        loops = [("each", "t", "town"), ("each", "l", "land"), ("each", "m", "mayor")]
+        tests = [("same", ("t", "id"), ("l", "head")), ("same", ("t", "id"), ("m", "town"))]
+        marks = ["l", "m", "t"]
+        self.check(planned(*loops, *tests, marks=marks), planned(loops[0], *loops[:0:-1], *tests, marks=marks))
+
+    def test_an_order_by_rows_to_which_references_lead(self):
+        one = planned(("each", "w", "ware"), marks=["w"])
+        self.check(one, planned(self.KEYED[1], self.KEYED[0], self.KEYED[2], marks=["w"]))
+        one = planned(("each", "m", "mayor"), marks=["m"])
+        other = planned(("each", "l", "land"), ("each", "t", "town"), ("each", "m", "mayor"),
+                        ("same", ("m", "town"), ("t", "id")), ("same", ("l", "id"), ("t", "land")), marks=["m"])
+        self.check(one, other)
+
     def test_orders_that_hang_on_answers(self):
         call = ("call", "x", "draw", (1,))
         one = planned(("each", "w", "ware"), call, ("each", "t", "town"), ("same", ("t", "id"), "x"), ("each", "v", "ware"),
