@@ -1,7 +1,5 @@
 """Schemas with keys, references and made columns, plans over them, and contents that keep them, made by chance."""
 
-import random
-
 from plancalls.answers import Answers, keeps
 from plancalls.contents import Contents
 from plancalls.plans import Plan
@@ -117,7 +115,8 @@ def rich_contents(chance, schema, functions):
     rows = {}
     for table in schema.tables():
         if schema.key(table) is None:
-            rows[table] = [filled_row(schema, table, None, keys, functions, chance) for _ in range(chance.randint(0, 3))]
+            many = range(chance.randint(0, 3))
+            rows[table] = [filled_row(schema, table, None, keys, functions, chance) for _ in many]
         else:
             rows[table] = [filled_row(schema, table, key, keys, functions, chance) for key in keys]
     contents = Contents(schema, rows)

@@ -13,7 +13,6 @@ from plancalls.ground import written
 from plancalls.parting import parting_case
 from plancalls.plans import Plan
 from plancalls.records import record
-from plancalls.schemas import Schema
 from plancalls.sites import sites
 from richly import rich_contents, rich_functions
 from things import error_of
@@ -74,8 +73,8 @@ class Alike(AlikeCase):
 
     def test_arguments_that_are_equal_by_the_conditions(self):
         one = marked(W, ("same", ("w", "cost"), 4), ("call", "x", "log", (4,)), shown=[("w", "net"), "x"])
-        other = marked(W, ("same", ("w", "cost"), 4), ("call", "y", "log", (("w", "cost"),)), ("call", "f", "fix", (4,)),
-                       shown=["f", "y"])
+        other = marked(W, ("same", ("w", "cost"), 4), ("call", "y", "log", (("w", "cost"),)),
+                       ("call", "f", "fix", (4,)), shown=["f", "y"])
         self.assert_alike(one, other)
 
     def test_further_loops_over_tables_to_which_references_lead(self):
@@ -260,7 +259,8 @@ class Errors(unittest.TestCase):
         for stream, index in [("", 0), ("draw", 0), (".", 1), (".", -1), ("none", 0), ("fix", 0)]:
             error = ("NoSite", stream, index)
             self.assertEqual(error, error_of(lambda: claims(planned(), planned(), stream, index)))
-        for one, other in [(planned(PING), planned()), (planned(), planned(PING)), (planned(DEAD, PING), planned(PING))]:
+        for one, other in [(planned(PING), planned()), (planned(), planned(PING)),
+                           (planned(DEAD, PING), planned(PING))]:
             self.assertEqual(("NoSite", "", 0), error_of(lambda: claims(one, other, "", 0)))
         self.assertEqual(("Hidden", 1, "w"), error_of(lambda: claims(planned(), planned(W), "", 0)))
 
@@ -292,8 +292,8 @@ class Claims(unittest.TestCase):
         self.assertEqual(expected, claims(one, other, ".", 0))
 
     def test_a_loop_settled_by_an_answer_and_by_an_integer(self):
-        other = planned(("call", "x", "draw", (1,)), T, ("same", ("t", "id"), "x"), U, ("same", ("u", "near"), ("t", "id")),
-                        ("same", ("u", "id"), 5))
+        other = planned(("call", "x", "draw", (1,)), T, ("same", ("t", "id"), "x"), U,
+                        ("same", ("u", "near"), ("t", "id")), ("same", ("u", "id"), 5))
         one = planned(("call", "x", "draw", (1,)), LOG)
         tie = told("draw", 0)
         found = claims(one, other, ".", 0)
@@ -370,7 +370,8 @@ class Compared(unittest.TestCase):
                 row[:2] if row[0] == "row" else row for row in keys[1]]:
             return "order"
         rows = [[row[2] for row in some if row[0] == "row"] for some in keys]
-        return None if self.same(ties[0], places[0], rows[0], [self.put(tie, ends[1][4]) for tie in rows[1]]) else "order"
+        others = [self.put(tie, ends[1][4]) for tie in rows[1]]
+        return None if self.same(ties[0], places[0], rows[0], others) else "order"
 
     def same(self, ties, place, some, others):
         if len(some) != len(others):

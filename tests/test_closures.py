@@ -61,7 +61,8 @@ class Occurring(ClosureCase):
         closure = at_end(("each", "s", "sale"), schema=CHAIN, more=[("unlike", tie, number(1))])
         self.assertIn(sorted([tie, ask("inc", look("goods", "low", cell("s", "good")))]), closure.classes())
         # Nothing tells that there is a row of goods with this key.
-        closure = at_end(("each", "s", "sale"), schema=CHAIN, more=[("unlike", tie[:3] + (cell("s", "sum"),), number(1))])
+        more = [("unlike", look("goods", "mid", cell("s", "sum")), number(1))]
+        closure = at_end(("each", "s", "sale"), schema=CHAIN, more=more)
         self.assertEqual(3, len(closure.classes()))
 
     def test_each_class_and_all_of_them_ascend_and_are_new(self):
@@ -136,8 +137,8 @@ class Equality(ClosureCase):
         one, other, third = cell("w", "cost"), cell("v", "cost"), cell("w", "town")
         self.assert_holds(closure.same(one, other), closure.same(one, one), closure.unlike(third, one),
                           closure.unlike(other, third))
-        self.assert_holds_not(closure.same(one, third), closure.unlike(one, other), closure.same(one, cell("v", "town")),
-                              closure.unlike(one, cell("v", "town")))
+        self.assert_holds_not(closure.same(one, third), closure.unlike(one, other),
+                              closure.same(one, cell("v", "town")), closure.unlike(one, cell("v", "town")))
 
     def test_integers(self):
         closure = at_end(W, ("same", ("w", "cost"), -BIG))
@@ -164,7 +165,8 @@ class Equality(ClosureCase):
 
     def test_looks_of_rows_that_are_not_had(self):
         closure = at_end(W, V, ("same", ("w", "cost"), ("v", "cost")))
-        self.assert_holds(closure.same(look("town", "near", cell("w", "cost")), look("town", "near", cell("v", "cost"))))
+        nears = [look("town", "near", cell(loop, "cost")) for loop in "wv"]
+        self.assert_holds(closure.same(nears[0], nears[1]))
 
     def test_made_columns(self):
         closure = at_end(W)
@@ -225,7 +227,8 @@ class Clashes(ClosureCase):
             closure = at_end(*items)
             self.assert_holds(closure.clashes(), closure.same(number(1), number(2)),
                               closure.unlike(number(1), number(1)), closure.had("land", number(1)),
-                              closure.entails(("had", "land", number(1))), closure.entails(("same", number(1), number(2))))
+                              closure.entails(("had", "land", number(1))),
+                              closure.entails(("same", number(1), number(2))))
 
     def test_conditions_that_do_not_clash(self):
         for items in self.FREE:
@@ -293,8 +296,9 @@ class Large(ClosureCase):
         schema = Schema({table: columns for table in tables}, functions, keys={table: "a" for table in tables},
                         references=references, made=made)
         items = [("each", loop, table) for loop, table in zip("pqrs", tables)]
-        items += [("same", ("p", "b"), ("q", "c")), ("same", ("q", "b"), ("r", "c")), ("call", "x", "h", (("p", "d"),) * 3),
-                  ("same", ("r", "b"), ("s", "c")), ("call", "y", "i", ("x", ("s", "e"))), ("unlike", "y", ("p", "e"))]
+        items += [("same", ("p", "b"), ("q", "c")), ("same", ("q", "b"), ("r", "c")),
+                  ("call", "x", "h", (("p", "d"),) * 3), ("same", ("r", "b"), ("s", "c")),
+                  ("call", "y", "i", ("x", ("s", "e"))), ("unlike", "y", ("p", "e"))]
         closure = Closure(Plan(schema, items), 10)
         self.assert_holds(closure.had("tf", look("tb", "c", cell("q", "a"))),
                           closure.same(look("ta", "e", look("ta", "b", cell("p", "a"))),

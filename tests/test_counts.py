@@ -36,7 +36,8 @@ class Settling(unittest.TestCase):
         for loop, expected in [("l", [("l",), ("t", "u")]), ("tt", [("t", "u"), ("tt",)])]:
             plan = planned(T, U, ("each", loop, "land"), ("call", "x", "add", (("t", "id"), ("u", "id"))),
                            ("same", (loop, "id"), "x"), ("call", "y", "now", ((loop, "id"),)),
-                           ("same", ("t", "id"), "y"), ("call", "z", "fix", ((loop, "id"),)), ("same", ("u", "id"), "z"))
+                           ("same", ("t", "id"), "y"), ("call", "z", "fix", ((loop, "id"),)),
+                           ("same", ("u", "id"), "z"))
             self.assertEqual(expected, settling(plan, 9))
 
     def test_none_is_needed(self):

@@ -93,7 +93,8 @@ class Works(unittest.TestCase):
         self.assertEqual([(("f", "effect"), ("g", "effect"))], freest(*ALIKE))
 
     def test_calls_ahead_of_a_comparison(self):
-        self.assertEqual([False, False, True], [works(*EARLY, (("f", kind),)) for kind in ["changing", "effect", "stable"]])
+        kinds = ["changing", "effect", "stable"]
+        self.assertEqual([False, False, True], [works(*EARLY, (("f", kind),)) for kind in kinds])
         self.assertEqual([(("f", "stable"),)], freest(*EARLY))
 
     def test_several_freest_assignments(self):
@@ -193,7 +194,8 @@ class Paper(unittest.TestCase):
         loose = bare(O, ("use",), kept=[("call", "x", "f", (1,))])
         self.assertEqual(([(("f", "stable"),)], [((("f", "changing"),), ("loose", 0, 0))]), self.check(loose, loose))
         hidden = bare(O, F, G, marks=[])
-        self.assertEqual(([], [((("f", "stable"), ("g", "stable")), ("hidden", 0, 3, "o"))]), self.check(hidden, hidden))
+        bads = [((("f", "stable"), ("g", "stable")), ("hidden", 0, 3, "o"))]
+        self.assertEqual(([], bads), self.check(hidden, hidden))
 
     def test_many_papers(self):
         chance = random.Random(72)

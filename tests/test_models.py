@@ -19,9 +19,10 @@ W, V, T, U = ("each", "w", "ware"), ("each", "v", "ware"), ("each", "t", "town")
 
 
 # Made columns that stand ahead of those that they are made of.
-AHEAD = Schema({"sums": ["top", "mid", "low", "id"], "part": ["all", "to"]}, {"inc": (1, "fixed"), "log": (0, "effect")},
-               keys={"sums": "id"}, references=[("part", "to", "sums")],
-               made=[("sums", "top", "inc", ("mid",)), ("sums", "mid", "inc", ("low",)), ("part", "all", "inc", ("to",))])
+AHEAD = Schema({"sums": ["top", "mid", "low", "id"], "part": ["all", "to"]},
+               {"inc": (1, "fixed"), "log": (0, "effect")}, keys={"sums": "id"}, references=[("part", "to", "sums")],
+               made=[("sums", "top", "inc", ("mid",)), ("sums", "mid", "inc", ("low",)),
+                     ("part", "all", "inc", ("to",))])
 
 
 class ModelCase(unittest.TestCase):
@@ -144,7 +145,8 @@ class Countering(ModelCase):
     def test_claims_of_equality(self):
         for one, other in [(cell("w", "cost"), cell("w", "town")), (cell("w", "cost"), cell("v", "cost")),
                            (cell("w", "cost"), number(0)), (number(1), number(2)), (told("draw", 0), number(4)),
-                           (look("town", "near", cell("t", "id")), cell("t", "id")), (cell("w", "net"), cell("v", "net")),
+                           (look("town", "near", cell("t", "id")), cell("t", "id")),
+                           (cell("w", "net"), cell("v", "net")),
                            (look("town", "near", cell("w", "town")), look("town", "near", cell("v", "town"))),
                            (ask("now", number(BIG)), ask("now", number(-BIG))),
                            (look("mayor", "town", look("land", "head", look("town", "land", cell("t", "id")))),

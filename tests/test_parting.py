@@ -177,7 +177,8 @@ class PartingCase(unittest.TestCase):
         one = planned(*self.KEYED, shown=[("t", "near")], marks=["w"])
         for other in [planned(self.KEYED[1], self.KEYED[0], self.KEYED[2], shown=[("t", "near")], marks=["w"]),
                       one.with_shown([("t", "land")]), one.with_shown([("t", "id")]),
-                      planned(*self.KEYED, ("unlike", ("t", "near"), ("w", "cost")), shown=[("t", "near")], marks=["w"]),
+                      planned(*self.KEYED, ("unlike", ("t", "near"), ("w", "cost")), shown=[("t", "near")],
+                              marks=["w"]),
                       planned(*self.KEYED, ("each", "m", "mayor"), ("same", ("m", "id"), ("t", "near")),
                               shown=[("t", "near")], marks=["w"]),
                       planned(self.KEYED[0], ("each", "m", "mayor"), ("same", ("m", "id"), ("w", "town")),
@@ -220,8 +221,8 @@ class PartingCase(unittest.TestCase):
 
     def test_orders_that_hang_on_answers(self):
         call = ("call", "x", "draw", (1,))
-        one = planned(("each", "w", "ware"), call, ("each", "t", "town"), ("same", ("t", "id"), "x"), ("each", "v", "ware"),
-                      marks=["t", "v", "w"])
+        one = planned(("each", "w", "ware"), call, ("each", "t", "town"), ("same", ("t", "id"), "x"),
+                      ("each", "v", "ware"), marks=["t", "v", "w"])
         other = planned(("each", "w", "ware"), call, ("each", "v", "ware"), ("each", "t", "town"),
                         ("same", ("t", "id"), "x"), marks=["t", "v", "w"])
         self.assertIsNone(parting_case(one, other))

@@ -3,7 +3,7 @@
 import random
 import unittest
 
-from lands import LANDS, planned
+from lands import planned
 from plainties import PlainClasses, PlainTies
 from plancalls.plans import Plan
 from plancalls.schemas import Schema
