@@ -1,9 +1,8 @@
 """Alike: whether two plans give out the same rows with the same calls, whatever they run on."""
 
-from plancalls.errors import Hidden, Loose, NoSite, Unlike
-from plancalls.outlines import Outline
+from plancalls.errors import NoSite, Unlike
 from plancalls.sides import Sides
-from plancalls.sites import hidden_by, loose, streams
+from plancalls.sites import plain_outline, streams
 
 
 def compare(one, other):
@@ -40,16 +39,9 @@ def claims(one, other, stream, index):
 def matched(one, other):
     """Return the Sides of two plans that can be compared, and raise Unlike, Loose or Hidden for others."""
     refuse_unlike(one, other)
-    outlines = []
-    for plan in (one, other):
-        at = loose(plan)
-        if at is not None:
-            raise Loose(at)
-        outlines.append(Outline(plan))
-        found = hidden_by(outlines[-1], plan.marks())
-        if found is not None:
-            raise Hidden(found[0], found[1])
-    return Sides(outlines[0], outlines[1])
+    first = plain_outline(one)
+    second = plain_outline(other)
+    return Sides(first, second)
 
 
 def refuse_unlike(one, other):

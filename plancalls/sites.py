@@ -1,6 +1,7 @@
 """Sites: where a plan calls changing and effect functions or gives out rows, and whether it is plain."""
 
 from plancalls.counts import subsets
+from plancalls.errors import Hidden, Loose
 from plancalls.outlines import Outline
 from plancalls.runs import stream_of
 
@@ -53,3 +54,15 @@ def hidden_by(outline, marks):
             if loop not in settled:
                 return (place, loop)
     return None
+
+
+def plain_outline(plan):
+    """Return the Outline of a plain plan; raise Loose or Hidden for any other one."""
+    at = loose(plan)
+    if at is not None:
+        raise Loose(at)
+    outline = Outline(plan)
+    found = hidden_by(outline, plan.marks())
+    if found is not None:
+        raise Hidden(found[0], found[1])
+    return outline

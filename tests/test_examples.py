@@ -101,6 +101,28 @@ FREEST = '''
 [None, True]
 '''
 
+# Behind [81].
+MOVES = '''
+>>> from plancalls.moves import alike_moves, judged, shortened
+>>> from plancalls.orders import exchanges, how_many, order_at, orders
+>>> [list(orders(early)), exchanges(early, [0, 1, 2], [0, 2, 1]), how_many(early)]
+[[[0, 1, 2], [0, 2, 1]], [1], 2]
+>>> [alike_moves(early), judged(early, ("swap", 1)) == ("alike", late), judged(early, ("drop", 2))[0]]
+[[('swap', 1)], True, 'parted']
+>>> twice = Plan(schema, [("each", "o", "orders"), ("call", "x", "old", (("o", "who"),)), ("call", "y", "old", (("o", "who"),))], ["x", "y"], marks=["o"])
+>>> shortened(twice) == Plan(schema, [("each", "o", "orders"), ("call", "x", "old", (("o", "who"),))], ["x", "x"], marks=["o"])
+True
+'''
+
+# Behind [92].
+FEWER = '''
+>>> from plancalls.fewer import against, never_more, put
+>>> early = Plan(market, [("each", "c", "cart"), ("call", "t", "tax", (("c", "many"),)), ("same", ("c", "item"), 7)], ["t"], marks=["c"])
+>>> late = Plan(market, [("each", "c", "cart"), ("same", ("c", "item"), 7), ("call", "t", "tax", (("c", "many"),))], ["t"], marks=["c"])
+>>> [never_more(late, early, "t"), never_more(early, late, "t"), against(late, early), put(late, early, "t")]
+[True, False, 'fewer', [('c', ('loop', 'c'))]]
+'''
+
 
 def result_of(line, session):
     """Return what the document writes behind a line: nothing, a value, or an error."""
@@ -127,7 +149,7 @@ class Examples(unittest.TestCase):
     def test_the_examples(self):
         session = {}
         for many, text in [(6, SCHEMAS), (6, ANSWERS), (4, PLANS), (11, RECORDS), (2, COUNTS), (10, CLOSURES),
-                           (5, ALIKE), (6, FREEST)]:
+                           (5, ALIKE), (6, FREEST), (6, MOVES), (4, FEWER)]:
             self.assertEqual(many, self.run_examples(text, session))
 
 

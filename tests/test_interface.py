@@ -3,8 +3,8 @@
 import inspect
 import unittest
 
-from plancalls import (alike, answers, closures, contents, counts, freest, ground, kinds, models, parting, plans,
-                       records, runs, schemas, sites, ties)
+from plancalls import (alike, answers, best, closures, contents, counts, fewer, freest, ground, kinds, models, moves,
+                       orders, parting, plans, records, runs, schemas, sites, ties)
 
 FUNCTIONS = {
     kinds: {
@@ -40,6 +40,22 @@ FUNCTIONS = {
         "assigned": "(plan, assignment)", "assignments": "(one, other)", "works": "(one, other, assignment)",
         "freest": "(one, other)", "stop": "(one, other, assignment)", "freest_paper": "(one, other)",
         "is_freest_paper": "(one, other, goods, bads)",
+    },
+    orders: {
+        "reordered": "(plan, order)", "is_order": "(plan, thing)", "orders": "(plan)", "how_many": "(plan)",
+        "number_of": "(plan, order)", "order_at": "(plan, number)", "next_items": "(plan, begun)",
+        "exchanges": "(plan, first, last)",
+    },
+    moves: {
+        "moved": "(plan, move)", "shortened": "(plan)", "judged": "(plan, move)", "alike_moves": "(plan)",
+    },
+    fewer: {
+        "never_more": "(one, other, answer)", "is_put": "(one, other, answer, thing)",
+        "is_more_case": "(one, other, answer, contents, functions)", "put": "(one, other, answer)",
+        "more_case": "(one, other, answer)", "against": "(one, other)",
+    },
+    best: {
+        "undominated": "(plans)", "bests": "(plan, *, most=200)", "papers": "(plans)", "best": "(plans)",
     },
 }
 CLASSES = {
@@ -122,12 +138,14 @@ class Interface(unittest.TestCase):
         self.assertIsInstance(vars(answers.Answers)["always"], staticmethod)
         self.assertTrue(inspect.isgeneratorfunction(runs.walk))
         self.assertTrue(inspect.isgeneratorfunction(freest.assignments))
+        self.assertTrue(inspect.isgeneratorfunction(orders.orders))
 
     def test_what_stands_behind_the_star_is_passed_by_keyword(self):
         schema = schemas.Schema({}, {})
         for call in [lambda: schemas.Schema({}, {}, None), lambda: answers.Answers({}, 0),
                      lambda: plans.Plan(schema, [], [], []),
-                     lambda: closures.Closure(plans.Plan(schema, []), 0, [])]:
+                     lambda: closures.Closure(plans.Plan(schema, []), 0, []),
+                     lambda: best.bests(plans.Plan(schema, []), 200)]:
             self.assertRaises(TypeError, call)
 
 

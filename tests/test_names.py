@@ -4,11 +4,15 @@ import unittest
 
 from plancalls.alike import claims, compare, pairs
 from plancalls.answers import Answers, keeps
+from plancalls.best import best, bests, papers, undominated
 from plancalls.closures import Closure
 from plancalls.contents import Contents
 from plancalls.counts import bound, settling
+from plancalls.fewer import against, more_case, never_more, put
 from plancalls.freest import freest, freest_paper
 from plancalls.ground import order_keys
+from plancalls.moves import alike_moves, judged, moved, shortened
+from plancalls.orders import exchanges, how_many, next_items, orders, reordered
 from plancalls.parting import differences
 from plancalls.plans import Plan
 from plancalls.records import record
@@ -105,6 +109,35 @@ class Shop:
                   lambda: claims(plan, plan, self.now, 0), lambda: claims(plan, plan, self.draw, 1)]
         return told + [error_of(call) for call in errors]
 
+    def ordered(self):
+        """Return what is told of orders and moves, and of plans that run calls more often or less."""
+        a, b, k, p, q, x = self.names
+        items = [("each", k, self.cart), ("call", a, self.now, ()), ("unlike", (k, self.sum), 0),
+                 ("call", b, self.log, ((k, self.sum),)), ("each", p, self.price),
+                 ("same", (k, self.item), (p, self.item)),
+                 ("call", q, self.add, ((p, self.item), (p, self.cost))), ("call", x, self.now, ())]
+        plan = Plan(self.schema, items, [a, (p, self.sum), q], marks=[k])
+        found = list(orders(plan))
+        told = [found, how_many(plan), next_items(plan, [0]), exchanges(plan, found[0], found[-1]), alike_moves(plan)]
+        told += [self.steps_and_shown(moved(plan, move)) for move in alike_moves(plan)]
+        told.append(self.steps_and_shown(shortened(plan)))
+        told.append([judged(plan, move)[0] for move in alike_moves(plan) + [("drop", 2), ("term", 3, 0, 0)]])
+        less = plan.with_shown([a]).with_items([*items[:4], ("call", q, self.add, ((k, self.item), (k, self.sum)))])
+        plans = [reordered(less, order) for order in orders(less)][::3]
+        told += [undominated(plans), best(plans), papers(plans), bests(less)]
+        told += [[against(plans[0], other) for other in plans], [put(plans[-1], less, name) for name in (a, b, q)]]
+        told.append([[never_more(one, less, name) for name in less.answers()] for one in plans])
+        told.append(more_case(plan, plan.with_items(items[:7]), x)[0].rows(self.cart))
+        told.append(error_of(lambda: bests(plan, most=1000)))
+        twice = Plan(self.schema, [items[0], ("each", p, self.cart), items[1]], marks=[k, p])
+        errors = [lambda: never_more(twice, twice, a), lambda: never_more(plan, plan, "none"),
+                  lambda: against(plan, plan.with_items(items[:3] + items[4:])),
+                  lambda: reordered(plan, [7, 6, 5, 4, 3, 2, 1, 0]), lambda: how_many(plan.with_marks([]))]
+        return told + [error_of(call) for call in errors]
+
+    def steps_and_shown(self, plan):
+        return [plan.steps(), plan.shown(), plan.marks()]
+
 
 def shape(told, names):
     """Return what was told with the number of each name, of whatever sort it is, in its place."""
@@ -134,6 +167,12 @@ class Names(unittest.TestCase):
         one, other = [{name: at for at, name in enumerate(name for names in sorts for name in names)}
                       for sorts in (self.sorts, OTHER)]
         told, others = [Shop(*sorts).compared() for sorts in (self.sorts, OTHER)]
+        self.assertEqual(shape(told, one), shape(others, other))
+
+    def test_other_names_in_orders_and_moves(self):
+        one, other = [{name: at for at, name in enumerate(name for names in sorts for name in names)}
+                      for sorts in (self.sorts, OTHER)]
+        told, others = [Shop(*sorts).ordered() for sorts in (self.sorts, OTHER)]
         self.assertEqual(shape(told, one), shape(others, other))
 
     def test_names_that_stand_for_things_of_several_sorts(self):
