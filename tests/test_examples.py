@@ -123,6 +123,35 @@ FEWER = '''
 [True, False, 'fewer', [('c', ('loop', 'c'))]]
 '''
 
+# Behind [100].
+STATEMENTS = '''
+>>> from plancalls.statements import told, wrong
+>>> told(market, {"draw": "statement"}, [(0, "draw", (), 4), (0, "draw", (), 5), (1, "draw", (), 6)])
+[4, 4, 6]
+>>> wrong(market, {"tax": "ever", "draw": "statement"})
+('draw', [(0, 'draw', (), 0), (0, 'draw', (), 1)])
+'''
+
+# Behind [101].
+LABELS = '''
+>>> from plancalls.labels import most_bound, refuting
+>>> uses = [(0, "now", (), 5), (0, "now", (), 5), (1, "now", (), 6), (1, "tax", (3,), 1)]
+>>> [most_bound(uses), refuting(uses, "now", "fixed"), refuting(uses, "now", "stable")]
+[{'now': 'stable', 'tax': 'fixed'}, (0, 2), None]
+'''
+
+# Behind [105].
+DESK = '''
+>>> from plancalls.desk import Desk
+>>> desk = Desk(shop)
+>>> [desk.execute("put 0 each s sale"), desk.execute("put 1 each i item"), desk.execute("put 2 same s.item i.id"), desk.execute("show i.price")]
+['-', '-', '-', '-']
+>>> [desk.execute("mark s"), desk.execute("plan"), desk.execute("back"), desk.execute("take 0")]
+raises BadItem(1)
+>>> desk.execute("plan")
+'each s sale\\neach i item\\nsame s.item i.id\\nshow i.price\\n'
+'''
+
 
 def result_of(line, session):
     """Return what the document writes behind a line: nothing, a value, or an error."""
@@ -149,7 +178,7 @@ class Examples(unittest.TestCase):
     def test_the_examples(self):
         session = {}
         for many, text in [(6, SCHEMAS), (6, ANSWERS), (4, PLANS), (11, RECORDS), (2, COUNTS), (10, CLOSURES),
-                           (5, ALIKE), (6, FREEST), (6, MOVES), (4, FEWER)]:
+                           (5, ALIKE), (6, FREEST), (6, MOVES), (4, FEWER), (3, STATEMENTS), (3, LABELS), (5, DESK)]:
             self.assertEqual(many, self.run_examples(text, session))
 
 

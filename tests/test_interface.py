@@ -3,8 +3,9 @@
 import inspect
 import unittest
 
-from plancalls import (alike, answers, best, closures, contents, counts, fewer, freest, ground, kinds, models, moves,
-                       orders, parting, plans, records, runs, schemas, sites, ties)
+from plancalls import (alike, answers, best, book, closures, contents, counts, desk, fewer, freest, ground,
+                       kinds, labels, models, moves, notation, orders, parting, plans, records, runs, schemas, sites,
+                       statements, ties)
 
 FUNCTIONS = {
     kinds: {
@@ -57,6 +58,19 @@ FUNCTIONS = {
     best: {
         "undominated": "(plans)", "bests": "(plan, *, most=200)", "papers": "(plans)", "best": "(plans)",
     },
+    statements: {
+        "is_history": "(schema, thing)", "is_wrong": "(schema, keepings, thing)",
+        "told": "(schema, keepings, history)", "asked": "(schema, keepings, history)", "lasting": "(kind)",
+        "wrong": "(schema, keepings)",
+    },
+    labels: {
+        "fits": "(uses, function, kind)", "is_refuting": "(uses, function, kind, thing)", "most_bound": "(uses)",
+        "refuting": "(uses, function, kind)", "wrong_labels": "(schema, uses)",
+    },
+    notation: {
+        "show_term": "(term)", "show_item": "(item)", "show_plan": "(plan)", "show_schema": "(schema)",
+        "read_term": "(text)", "read_item": "(text)", "read_plan": "(schema, text)", "read_schema": "(text)",
+    },
 }
 CLASSES = {
     schemas: {
@@ -107,8 +121,15 @@ CLASSES[closures] = {
         "entails": "(self, claim)",
     },
 }
+CLASSES[book] = {
+    "Book": {
+        "__init__": "(self, schema)", "do": "(self, deed)", "back": "(self)", "again": "(self)", "plan": "(self)",
+        "until": "(self, many)", "log": "(self)", "copied": "(self)", "__eq__": "(self, other)", "__len__": "(self)",
+    },
+}
+CLASSES[desk] = {"Desk": {"__init__": "(self, schema)", "execute": "(self, line)"}}
 PROPERTIES = [(contents.Contents, "schema"), (answers.Answers, "rest"), (answers.Answers, "step"),
-              (plans.Plan, "schema")]
+              (plans.Plan, "schema"), (book.Book, "schema")]
 
 
 class Interface(unittest.TestCase):

@@ -5,13 +5,17 @@ import unittest
 from plancalls.alike import claims, compare, pairs
 from plancalls.answers import Answers, keeps
 from plancalls.best import best, bests, papers, undominated
+from plancalls.book import Book
 from plancalls.closures import Closure
 from plancalls.contents import Contents
 from plancalls.counts import bound, settling
+from plancalls.desk import Desk
 from plancalls.fewer import against, more_case, never_more, put
 from plancalls.freest import freest, freest_paper
 from plancalls.ground import order_keys
+from plancalls.labels import most_bound, refuting, wrong_labels
 from plancalls.moves import alike_moves, judged, moved, shortened
+from plancalls.notation import read_plan, read_schema, show_item, show_plan, show_schema, show_term
 from plancalls.orders import exchanges, how_many, next_items, orders, reordered
 from plancalls.parting import differences
 from plancalls.plans import Plan
@@ -19,6 +23,7 @@ from plancalls.records import record
 from plancalls.runs import traced, walk
 from plancalls.schemas import Schema
 from plancalls.sites import hidden, loose, marks_wanted, sites, streams
+from plancalls.statements import asked, is_history, wrong
 from plancalls.ties import conditions, inner_ties, loops_in, tie_of
 from things import error_of
 
@@ -135,8 +140,38 @@ class Shop:
                   lambda: reordered(plan, [7, 6, 5, 4, 3, 2, 1, 0]), lambda: how_many(plan.with_marks([]))]
         return told + [error_of(call) for call in errors]
 
+    def kept_and_written(self):
+        """Return what is told of answers that are kept, and what is written of the plan: texts as lists of words."""
+        a, b, k, p, q, x = self.names
+        history = [(0, self.add, (1, 2), 3), (0, self.now, (), 4), (1, self.now, (), 5), (1, self.draw, (1,), 6),
+                   (1, self.draw, (1,), 7)]
+        keepings = {self.add: "ever", self.now: "ever", self.draw: "statement", self.log: "statement"}
+        told = [is_history(self.schema, history), asked(self.schema, keepings, history), wrong(self.schema, keepings),
+                wrong(self.schema, {self.now: "ever"}), list(most_bound(history).items()),
+                refuting(history, self.now, "fixed"), wrong_labels(self.schema.with_kinds({self.draw: "stable"}),
+                                                                   history)]
+        plan, schema = show_plan(self.plan), show_schema(self.schema)
+        told += [split(plan), split(schema), split(show_item(self.plan.steps()[1])), split(show_term((k, self.sum)))]
+        told += [read_plan(self.schema, plan) == self.plan, read_schema(schema) == self.schema]
+        book, desk = Book(self.schema), Desk(self.schema)
+        for line in [f"put 0 each {k} {self.cart}", f"put 1 call {a} {self.now}", f"mark {k}",
+                     f"show {a} {k}.{self.sum}",
+                     f"kind {self.now} effect", "keep 1", "plan", "schema", "back", "back", "again", "log", "plain",
+                     "orders"]:
+            told.append(split(desk.execute(line)))
+        book.do(("put", 0, ("each", k, self.cart)))
+        told += [book.log(), book.plan().steps()]
+        errors = [lambda: book.do(("kind", self.add, "stable")), lambda: book.do(("mark", (a, k))),
+                  lambda: desk.execute("kind none fixed"), lambda: desk.execute(f"put 0 each {k} {self.price}")]
+        return told + [error_of(call) for call in errors]
+
     def steps_and_shown(self, plan):
         return [plan.steps(), plan.shown(), plan.marks()]
+
+
+def split(text):
+    """Return the lines of a text as lists of words, loops and columns apart."""
+    return [line.replace(".", " . ").split(" ") for line in text.split("\n")]
 
 
 def shape(told, names):
@@ -173,6 +208,12 @@ class Names(unittest.TestCase):
         one, other = [{name: at for at, name in enumerate(name for names in sorts for name in names)}
                       for sorts in (self.sorts, OTHER)]
         told, others = [Shop(*sorts).ordered() for sorts in (self.sorts, OTHER)]
+        self.assertEqual(shape(told, one), shape(others, other))
+
+    def test_other_names_in_statements_and_texts(self):
+        one, other = [{name: at for at, name in enumerate(name for names in sorts for name in names)}
+                      for sorts in (self.sorts, OTHER)]
+        told, others = [Shop(*sorts).kept_and_written() for sorts in (self.sorts, OTHER)]
         self.assertEqual(shape(told, one), shape(others, other))
 
     def test_names_that_stand_for_things_of_several_sorts(self):
