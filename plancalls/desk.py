@@ -78,7 +78,7 @@ def deed_of(words):
     if word in ("take", "move", "keep"):
         return (word, *[number_of_word(part) for part in parts])
     if word == "show":
-        return (word, tuple([term_of([part]) for part in parts]))
+        return (word, tuple([term_of(part) for part in parts]))
     if word == "mark":
         return (word, tuple(parts))
     return tuple(words)

@@ -5,7 +5,7 @@ from plancalls.errors import Hidden, Loose, NoMove, PlanError
 from plancalls.kinds import is_integer, is_name
 from plancalls.ordering import is_bound_call, terms_of
 from plancalls.parting import parting_case
-from plancalls.plans import USE, Plan, are_terms, is_term
+from plancalls.plans import USE, Plan, is_term
 from plancalls.sites import plain_outline
 
 # How many parts the moves of each form have.
@@ -136,9 +136,9 @@ def swapped(plan, at):
 
 
 def dropped(plan, at):
-    """Return the Plan without an item; there is none if a term reads it, or a mark names it."""
+    """Return the Plan without an item; there is none if a term reads it, a mark names it, or kept items need it."""
     items = plan.main_items()
-    if items[at] == USE or (items[at][0] == "call" and not is_bound_call(plan.schema, items[at])):
+    if items[at][0] == "call" and not is_bound_call(plan.schema, items[at]):
         raise NoMove()
     del items[at]
     return plan.with_items(items)
@@ -161,11 +161,9 @@ def with_column(plan, at, term):
 
 
 def kept_from(plan, at):
-    """Return the Plan in which a call stands behind the kept items."""
+    """Return the Plan in which a call stands behind the kept items; there is none if it reads what main items give."""
     items = plan.main_items()
     kept = plan.kept()
-    if not are_terms(plan.schema, kept, items[at][3]):
-        raise NoMove()
     call = items[at]
     del items[at]
     used = items if kept else [USE, *items]

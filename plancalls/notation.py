@@ -18,10 +18,8 @@ def show_term(term):
 def show_item(item):
     """Return the text of an item."""
     if item[0] == "call":
-        return line_of(list(item[:3]), item[3])
-    if item[0] in ("same", "unlike"):
-        return line_of([item[0]], item[1:])
-    return " ".join(item)
+        return line_of(item[:3], item[3])
+    return line_of(item[:1], item[1:])
 
 
 def show_plan(plan):
@@ -49,7 +47,9 @@ def show_schema(schema):
 
 def read_term(text):
     """Return the term that a text, any value, writes."""
-    return term_of(words_of(text, " "))
+    if not isinstance(text, str):
+        raise NoText()
+    return term_of(text)
 
 
 def read_item(text):
@@ -65,7 +65,7 @@ def read_plan(schema, text):
         if words[0] == "kept":
             kept.append(item_of(words[1:]))
         elif words[0] == "show":
-            shown = [term_of([word]) for word in words[1:]]
+            shown = [term_of(word) for word in words[1:]]
         elif words[0] == "mark":
             marks = words[1:]
         else:
@@ -120,11 +120,8 @@ def lines_of(text):
     return lines
 
 
-def term_of(words):
-    """Return the term that a list of one word writes."""
-    if len(words) != 1:
-        raise NoText()
-    word = words[0]
+def term_of(word):
+    """Return the term that a word writes."""
     if is_name(word):
         return word
     parts = word.split(".")
@@ -150,9 +147,9 @@ def item_of(words):
     if words[:1] == ["each"] and len(words) == 3 and are_names(words):
         return tuple(words)
     if words[:1] == ["call"] and 3 <= len(words) <= 3 + MOST_ARGUMENTS and are_names(words[:3]):
-        return (*words[:3], tuple([term_of([word]) for word in words[3:]]))
+        return (*words[:3], tuple([term_of(word) for word in words[3:]]))
     if words[:1] in (["same"], ["unlike"]) and len(words) == 3:
-        return (words[0], term_of(words[1:2]), term_of(words[2:]))
+        return (words[0], term_of(words[1]), term_of(words[2]))
     raise NoText()
 
 

@@ -111,8 +111,6 @@ class Ordering:
         others = [site for site in outline.sites() if site[2] == place]
         if not sites:
             return not others
-        if not others or sites[0][:2] != others[0][:2]:
-            return False
         if sorted(self._plan.open_at(own)) != sorted(outline.plan().open_at(place)):
             return False
         if hidden_by(outline, outline.plan().marks()) is not None:

@@ -72,13 +72,13 @@ def exchanges(plan, first, last):
     ordering = Ordering(plain_outline(plan))
     found = straight(first, last, lambda order: ordering.is_right(order))
     if found is None:
-        # References can leave orders between which no right ones lie: then a way around, or across what is not right.
-        found = roundabout(first, last, lambda order: ordering.is_right(order))
-    return straight(first, last, lambda order: True) if found is None else found
+        # References can part the right orders: no way leads from one to the other by right ones alone.
+        found = straight(first, last, lambda order: True)
+    return found
 
 
 def straight(first, last, may_stand):
-    """Return the least list of exchanges of items that stand the other way about, None if it leads nowhere."""
+    """Return the least list of exchanges of items that stand the other way about, None if they lead to nothing."""
     found = []
     order = list(first)
     while order != last:
@@ -88,36 +88,6 @@ def straight(first, last, may_stand):
         found.append(ways[0])
         order = exchanged(order, ways[0])
     return found
-
-
-def roundabout(first, last, may_stand):
-    """Return the least list of the fewest exchanges, of any items, None if none leads to the last order."""
-    far = distances(first, last, may_stand)
-    if tuple(first) not in far:
-        return None
-    found = []
-    order = list(first)
-    while order != last:
-        nearer = far[tuple(order)] - 1
-        found.append([at for at in range(len(order) - 1) if far.get(tuple(exchanged(order, at))) == nearer][0])
-        order = exchanged(order, found[-1])
-    return found
-
-
-def distances(first, last, may_stand):
-    """Return the dict from orders to how many exchanges lead to the last one, for those as near as the first one."""
-    far = {tuple(last): 0}
-    waiting = [list(last)]
-    while waiting and tuple(first) not in far:
-        begun = waiting
-        waiting = []
-        for order in begun:
-            for at in range(len(order) - 1):
-                near = exchanged(order, at)
-                if tuple(near) not in far and may_stand(near):
-                    far[tuple(near)] = far[tuple(order)] + 1
-                    waiting.append(near)
-    return far
 
 
 def inverted(order, last):

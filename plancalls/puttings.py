@@ -104,9 +104,7 @@ def is_own(one, other, rows, tie):
 
 
 def is_own_row(one, rows, loop):
-    """Return whether a loop is put to its own row."""
-    if loop not in one.loops():
-        return False
+    """Return whether a loop that is open at a Calling is put to its own row."""
     own = one.row_of(loop)
     if own[0] == "loop":
         return rows[loop] == own

@@ -32,8 +32,9 @@ class ScriptedRun(Run):
 
     def _wanted_at(self, place):
         """Return what is wanted of the call at a place."""
-        site = self._sites.get(place)
-        if site is not None and second_site(site) in self._wanted and self._is_second(place):
+        # A call that is made is one of a live site.
+        site = self._sites[place]
+        if second_site(site) in self._wanted and self._is_second(place):
             return self._wanted[second_site(site)]
         return self._wanted.get(site, self._rest)
 

@@ -119,7 +119,7 @@ class Bests(unittest.TestCase):
         self.assertEqual([[]], bests(planned()))
         self.assertEqual([[0, 1]], bests(marked(W, LOG)))
         # There is no other order, and so no table that stands twice.
-        self.assertEqual([[0, 1, 2]], bests(planned(W, V, ("call", "x", "log", (1,)), marks=["v", "w"])))
+        self.assertEqual([[0, 1, 2]], bests(planned(W, V, ("call", "n", "now", (("v", "cost"),)), marks=["v", "w"])))
 
     def test_kept_calls(self):
         plan = planned(("use",), CHEAP, NOW, kept=[W, FIX], marks=["w"])

@@ -297,6 +297,12 @@ class Copies(Case):
         self.assertEqual((planned(W), planned(W)), (book.plan(), twin.plan()))
         self.assertEqual((3, 1), (len(book), len(twin)))
 
+    def test_a_copy_has_the_kinds_that_were_told(self):
+        twin = book_of(("kind", "now", "effect")).copied()
+        self.assertEqual(LANDS.with_kinds({"now": "effect"}), twin.schema)
+        self.assertEqual(("kind", "now", "effect"), twin.back())
+        self.assertEqual(LANDS, twin.schema)
+
     def test_a_copy_of_an_empty_one(self):
         twin = Book(LANDS).copied()
         twin.do(("put", 0, W))

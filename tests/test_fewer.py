@@ -127,6 +127,11 @@ class Lacking(Case):
         self.assertIs(False, is_put(live, dead, "n", []))
         self.assertIs(False, is_put(live, dead, "n", [("w", ("loop", "w"))]))
 
+    def test_no_putting_where_the_other_one_lacks_it(self):
+        one, other = marked(W, NOW, LOG), marked(W, LOG)
+        self.assertIs(False, is_put(one, other, "n", []))
+        self.assertIs(False, is_put(one, other, "n", [("w", ("loop", "w"))]))
+
     def test_a_clash_where_the_other_one_lacks_it(self):
         dead, lacking = marked(W, CLASH, NOW), marked(W, CLASH)
         self.holds(dead, lacking, "n", [])
@@ -251,6 +256,34 @@ class Rows(Case):
         town = ("same", ("t", "id"), 4)
         self.holds(planned(T, town, NOW), planned(NOW, T, town), "n", [])
 
+    def test_two_points_with_a_row_in_common(self):
+        # Of one good there are two sales, and of one sale two bids.
+        case = self.fails(shop(G, S, BUY, NOW, marks=["g", "s"]), shop(G, NOW, S, BUY, marks=["g", "s"]), "n")
+        self.assertEqual((1, 2), (case[0].size("good"), case[0].size("sale")))
+        case = self.fails(shop(S, B, NOW, marks=["b", "s"]), shop(S, NOW, B, marks=["b", "s"]), "n")
+        self.assertEqual((1, 2), (case[0].size("sale"), case[0].size("bid")))
+        dear = ("unlike", ("s", "sum"), ("b", "high"))
+        case = self.fails(shop(S, B, dear, NOW, marks=["b", "s"]), shop(S, NOW, B, dear, marks=["b", "s"]), "n")
+        self.assertEqual((1, 2), (case[0].size("sale"), case[0].size("bid")))
+
+    def test_two_points_with_an_answer_in_common(self):
+        # Both bids are at what was drawn for the sale.
+        draw, check = ("call", "d", "draw", ()), ("same", ("b", "low"), "d")
+        one = shop(S, draw, B, check, NOW, marks=["b", "s"])
+        case = self.fails(one, shop(S, draw, NOW, B, check, marks=["b", "s"]), "n")
+        self.assertEqual(2, runs(one, "n", case))
+
+    def test_two_points_with_answers_of_their_own(self):
+        draw, check = ("call", "d", "draw", ()), ("same", ("b", "low"), "d")
+        one = shop(S, B, draw, check, NOW, marks=["b", "s"])
+        case = self.fails(one, shop(S, NOW, B, draw, check, marks=["b", "s"]), "n")
+        self.assertEqual(2, runs(one, "n", case))
+        # One drawn for the sale, and one for each of its bids.
+        again, other = ("call", "e", "draw", ()), ("same", ("b", "high"), "e")
+        one = shop(S, draw, B, again, check, other, NOW, marks=["b", "s"])
+        case = self.fails(one, shop(S, draw, NOW, B, again, check, other, marks=["b", "s"]), "n")
+        self.assertEqual(2, runs(one, "n", case))
+
     def test_a_row_that_another_answer_tells_each_time(self):
         # The loop goes on where its key is the answer of a call: at each row another one.
         check = ("same", ("t", "id"), "d")
@@ -324,6 +357,15 @@ class StandsTwice(Case):
         four = ("same", ("t", "id"), 4)
         self.fails(marked(T, four, NOW, W), marked(W, NOW, T, four), "n")
 
+    def test_rows_to_which_rows_of_a_table_that_has_two_lead(self):
+        # Two goods have one maker, but the sale leads to another good, and this one to another maker.
+        five = [("same", (loop, column), 5) for loop, column in [("g", "maker"), ("h", "maker"), ("k", "id")]]
+        goods = [G, ("each", "h", "good"), *five[:2]]
+        with_sale = shop(*goods, S, NOW, K, five[2], marks=["g", "h", "s"])
+        self.twice("maker", with_sale, shop(K, five[2], NOW, *goods, S, marks=["g", "h", "s"]), "n")
+        without = shop(*goods, NOW, K, five[2], marks=["g", "h"])
+        self.fails(without, shop(K, five[2], NOW, *goods, marks=["g", "h"]), "n")
+
     def test_the_least_table(self):
         tables = [("each", "t", "town"), ("each", "u", "town"), ("each", "p", "part"), ("each", "q", "part")]
         plan = planned(*tables, NOW, marks=["p", "q", "t", "u"])
@@ -361,6 +403,65 @@ class IsPut(Case):
         for tie in [near, number(5), cell("w", "cost"), ask("fix", number(4)), told("draw", 0), cell("t", "id"),
                     look("town", "land", number(4))]:
             self.assertIs(False, is_put(one, other, "n", [("w", ("loop", "w")), ("t", row("town", tie))]))
+
+    def test_ties_of_all_forms(self):
+        asked, draws = ("call", "a", "now", (("s", "sum"),)), [("call", name, "draw", ()) for name in "de"]
+        checks = [("same", ("k", "id"), "e"), ("same", ("k", "id"), "a")]
+        one, other = shop(S, asked, *draws, K, *checks, NOW), shop(S, asked, *draws, K, NOW, *checks)
+        for tie in [cell("k", "id"), told("draw", 1), ask("now", cell("s", "sum"))]:
+            self.assertIs(True, is_put(one, other, "n", [("s", ("loop", "s")), ("k", row("maker", tie))]))
+        total = cell("s", "sum")
+        for tie in [told("draw", True), told("draw", 0), told("draw", 2), told("draw", -1), told("draws", 1),
+                    told("now", 1),
+                    ("told", "draw", 1, 1), ("told", "draw"), ask("now"), ask("now", total, total), ("ask", "now",
+                                                                                                     [total]),
+                    ("ask", "now", total), ("ask", "now", (total,), 1), ask("draw"), ask("nows", total), ask("now",
+                                                                                                             number(1)),
+                    ask("now", ("cell", "s", "sums")), ("cell", "k", "land"), ("cell", "k", "id", "id"), ("cell", "k")]:
+            self.assertIs(False, is_put(one, other, "n", [("s", ("loop", "s")), ("k", row("maker", tie))]))
+
+    def test_looks_and_integers(self):
+        one, other = shop(S, NOW, G, BUY, K, MAKE), shop(S, G, BUY, K, MAKE, NOW)
+        good = cell("s", "good")
+        begun = [("s", ("loop", "s")), ("g", row("good", good))]
+        self.assertIs(True, is_put(one, other, "n", [*begun, ("k", row("maker", look("good", "maker", good)))]))
+        for tie in [("look", "good", "id", good), ("look", "good", "maker"), ("look", "good", "maker", good, good),
+                    ("look", "sale", "good", good), ("look", "goods", "maker", good), ("look", "good", "makers", good),
+                    look("good", "maker", number(1)), look("maker", "land", good), ("look", "good", "maker", ("int",
+                                                                                                              True))]:
+            self.assertIs(False, is_put(one, other, "n", [*begun, ("k", row("maker", tie))]))
+        first = ("same", ("k", "id"), 1)
+        one, other = shop(K, first, NOW, marks=["k"]), shop(K, NOW, first, marks=["k"])
+        self.assertIs(True, is_put(one, other, "n", [("k", row("maker", number(1)))]))
+        for tie in [("int", True), ("int", 1, 1), ("int",), ("int", "1"), ("ints", 1), number(0), number(2)]:
+            self.assertIs(False, is_put(one, other, "n", [("k", row("maker", tie))]))
+
+    def test_columns_of_loops_with_a_key(self):
+        one, other = shop(K, NOW, J, LIVE, marks=["k"]), shop(K, J, LIVE, NOW, marks=["k"])
+        maker = ("k", row("maker", cell("k", "id")))
+        self.assertIs(True, is_put(one, other, "n", [maker, ("j", row("land", look("maker", "land", cell("k",
+                                                                                                         "id"))))]))
+        self.assertIs(False, is_put(one, other, "n", [maker, ("j", row("land", cell("k", "land")))]))
+
+    def test_an_answer_at_its_own_row_told_otherwise(self):
+        draw, check = ("call", "d", "draw", ()), ("same", "d", 3)
+        first = ("same", ("k", "id"), 1)
+        one, other = shop(K, first, draw, check, NOW, marks=["k"]), shop(K, first, draw, check, NOW, marks=["k"])
+        for tie in (cell("k", "id"), number(1)):
+            self.assertIs(True, is_put(one, other, "n", [("k", row("maker", tie))]))
+
+    def test_rows_told_otherwise(self):
+        one, other = shop(S, K, NOW, marks=["k", "s"]), shop(S, K, NOW, marks=["k", "s"])
+        right, key = [("s", ("loop", "s")), ("k", row("maker", cell("k", "id")))], cell("k", "id")
+        self.assertIs(True, is_put(one, other, "n", right))
+        for told_row in [("loop", "k"), ("row", "maker"), ("row", "maker", key, key), ("rows", "maker", key), ("row",
+                                                                                                               "good",
+                                                                                                               key),
+                         ("row", "land", key), ("loop", "k", "k"), ("row", key), ("loop",)]:
+            self.assertIs(False, is_put(one, other, "n", [right[0], ("k", told_row)]))
+        for told_row in [("loop", "k"), ("loop", "s", "s"), ("row", "sale", cell("s", "sum")), ("loops", "s"), ("loop",
+                                                                                                                "z")]:
+            self.assertIs(False, is_put(one, other, "n", [("s", told_row), right[1]]))
 
     def test_what_is_no_tie(self):
         one, other = planned(T, NOW, marks=["t"]), planned(T, NOW, marks=["t"])

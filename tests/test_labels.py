@@ -103,6 +103,7 @@ class IsRefuting(unittest.TestCase):
     def test_other_values(self):
         uses = [(0, "f", (), 1), (0, "f", (), 2)]
         self.assertIs(True, is_refuting(uses, "f", "stable", (0, 1)))
+        self.assertIs(False, is_refuting(uses, "f", "stable", (-1, 0)))
         for thing in [(False, True), (0, True), (False, 1), [0, 1], (0, 1, 1), (0,), (), ("0", "1"), (Equal(), Equal()),
                       ((0, 1),), {0: 1}, (None, 1), ([0], 1), tuple(range(10000)), "9" * 5000, *of_all_sorts()]:
             self.assertIs(False, is_refuting(uses, "f", "stable", thing))

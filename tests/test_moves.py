@@ -10,6 +10,7 @@ from plancalls.errors import PlanError
 from plancalls.moves import alike_moves, judged, moved, shortened
 from plancalls.parting import is_case
 from plancalls.plans import Plan
+from plancalls.schemas import Schema
 from plancalls.sites import is_plain
 from things import Equal, error_of, of_all_sorts
 
@@ -123,6 +124,13 @@ class Join(Case):
                     ("join", 0, "n"), ("join", 4, "n"))
         self.check(marked(W, NOW, FIX, LOG), plan, ("join", 3, "n"))
 
+    def test_a_table_and_an_answer_with_the_name_of_the_function(self):
+        schema = Schema({"f": ["x"]}, {"f": (0, "fixed")})
+        items = [("each", "l", "f"), ("call", "f", "f", ()), ("same", "f", "f"), ("call", "a", "f", ())]
+        plan = Plan(schema, items, marks=["l"])
+        self.refuse(plan, ("join", 3, "l"), ("join", 1, "l"), ("join", 3, "same"))
+        self.check(Plan(schema, items[:3], marks=["l"]), plan, ("join", 3, "f"))
+
     def test_calls_of_changing_and_effect_functions(self):
         again = ("call", "y", "log", (("w", "cost"),))
         self.refuse(marked(W, LOG, again), ("join", 2, "x"))
@@ -200,6 +208,8 @@ class Term(Case):
         self.check(marked(W, add, CHEAP, shown=[4, 3]), plan, ("term", 3, 0, 4))
         self.check(marked(W, add, CHEAP, shown=["a", "a"]), plan, ("term", 3, 1, "a"))
         self.check(plan, plan, ("term", 3, 1, 3))
+        self.check(planned(("same", 1, 5)), planned(("same", 1, 2)), ("term", 0, 1, 5))
+        self.check(planned(shown=[5, 2]), planned(shown=[1, 2]), ("term", 0, 0, 5))
 
     def test_k_out_of_range(self):
         plan = marked(W, ("call", "a", "add", (1, 2)), CHEAP, shown=["a", 3])
@@ -254,6 +264,12 @@ class AlikeMoves(Case):
                     ("column", 1, "w", "town"), ("column", 5, "w", "net"), ("drop", 1), ("drop", 4), ("join", 3, "n"),
                     ("keep", 1), ("swap", 0), ("swap", 1), ("swap", 2), ("swap", 4)]
         self.assertEqual(expected, alike_moves(plan))
+
+    def test_answers_that_ascend(self):
+        calls = [("call", name, "now", (1,)) for name in "cab"]
+        moves = alike_moves(planned(*calls, shown=["a", "b", "c"]))
+        self.assertEqual([("join", 1, "c"), ("join", 2, "a"), ("join", 2, "c"), ("keep", 0), ("keep", 1), ("keep", 2),
+                          ("swap", 0), ("swap", 1)], moves)
 
     def test_none(self):
         self.assertEqual([], alike_moves(planned()))

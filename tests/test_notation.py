@@ -291,7 +291,8 @@ class Schemas(Case):
                      "function f 01 fixed",
                      "function f x fixed", "function f 1 free", "function F 1 fixed", "function f \u0661 fixed",
                      "reference a b",
-                     "reference a b c d", "made a b", "each s sale", "mark a", "show 1", "", " ", "function f +1 fixed",
+                     "reference a b c d", "made a b", "each s sale", "kind f 1 fixed", "tables a b c", "mark a",
+                     "show 1", "", " ", "function f +1 fixed",
                      "function f 1.0 fixed", "function f 1 fixed ", "function f " + "1" * 41 + " fixed",
                      "function f " + "9" * 5000 + " fixed"]:
             self.refuse(read_schema, f"{line}\n", f"table z y\n{line}\n", f"{line}\nfunction z 0 fixed\n")
