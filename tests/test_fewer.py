@@ -8,7 +8,7 @@ from lands import ask, cell, look, number, planned, row, told
 from pairings import plain_plan
 from plainfewer import never
 from plainly import PlainRun
-from plancalls.answers import Answers, keeps
+from plancalls.answers import Answers, keeps, values_in
 from plancalls.contents import Contents
 from plancalls.errors import Missing, Twice
 from plancalls.fewer import against, is_more_case, is_put, more_case, never_more, put
@@ -611,16 +611,17 @@ class Against(Case):
 
 
 class ByChance(unittest.TestCase):
-    def check_sizes(self, one, other, contents):
-        """Check that no table has more than two rows for each loop, and those to which references lead."""
-        loops = [one.table_of(loop) for loop in one.loops()] + [other.table_of(loop) for loop in other.loops()]
-        asked = {target for _, _, target in one.schema.references()}
-        for table in one.schema.tables():
-            if table not in asked:
-                self.assertLessEqual(contents.size(table), 2 * loops.count(table))
-        ahead = len(one.schema.references()) + len(one.schema.tables())
-        most = 2 * (len(loops) + 1) * (ahead + 1)
-        self.assertLessEqual(sum(contents.size(table) for table in one.schema.tables()), most)
+    def check_sizes(self, one, answer, contents):
+        """Check that a table has two rows for each loop at the call at most, and those to which references lead."""
+        schema = one.schema
+        loops = [one.table_of(loop) for loop in one.open_at(one.place_of(answer))]
+        for table in schema.tables():
+            led = [value for source, column, target in schema.references() if target == table
+                   for value in values_in(contents, source, column)]
+            rows = contents.rows(table)
+            if schema.key(table) is not None:
+                rows = [key for key in values_in(contents, table, schema.key(table)) if key not in led]
+            self.assertLessEqual(len(rows), 2 * loops.count(table))
 
     def test_puttings_and_cases(self):
         chance = random.Random(90)
@@ -654,7 +655,7 @@ class ByChance(unittest.TestCase):
             self.assertIsNone(keeps(one.schema, *case))
             self.assertIs(True, is_more_case(one, other, answer, *case))
             self.assertGreater(runs(one, answer, case), runs(other, answer, case))
-            self.check_sizes(one, other, case[0])
+            self.check_sizes(one, answer, case[0])
 
 
 class Large(Case):

@@ -54,6 +54,17 @@ class AnyValue(Case):
             self.refuse(plan, ("swap", at), ("drop", at), ("join", at, "n"), ("column", at, "w", "cost"), ("keep", at),
                         ("term", at, 0, 1), ("term", 1, at, 1))
 
+    def test_great_values(self):
+        plan = marked(W, NOW, AGAIN, shown=["n"])
+        deep, wide = 1, tuple(range(9990))
+        for _ in range(11):
+            deep = (deep,)
+        self.refuse(plan, wide, list(wide), deep, "swap 0" * 1000, ("9" * 5000, 1), ("swap", 10 ** 39), ("drop",
+                                                                                                         -10 ** 39),
+                    ("term", 1, 0, wide), ("term", 1, 0, deep), ("term", 1, 0, "9" * 5000), ("term", 1, 10 ** 39, 0),
+                    ("join", 2, wide), ("join", 2, "n" * 9990), ("column", 2, wide, deep), ("column", 2, "w", deep),
+                    ("swap", *wide), ("term", *wide))
+
     def test_names_and_terms_of_all_sorts(self):
         plan = marked(W, NOW, AGAIN, shown=["n"])
         for thing in of_all_sorts():
